@@ -1,0 +1,1 @@
+"""A solver that never goes back, and the books of tables for which there is one."""
