@@ -290,13 +290,6 @@ class ClosedTest(unittest.TestCase):
         for width in (1, 2, 3, 4):
             self.assertEqual(Table(BITS, width, []), closed_by(Table(BITS, width, []), minority(BITS)))
 
-    def test_up_to_eighty_one_rows(self):
-        sums = {three: THREE[(sum(THREE.index(mark) for mark in three) + 1) % 3] for three in threes(THREE)}
-        units = [("b", "a", "a", "a"), ("a", "b", "a", "a"), ("a", "a", "b", "a"), ("a", "a", "a", "b")]
-        table = Table(THREE, 4, units + [("a", "a", "a", "a")])
-        self.assertEqual(full(THREE, 4), closed_by(table, sums))
-        self.assertIs(True, keeps(full(THREE, 4), sums))
-
 
 class KeepsByPairsTest(unittest.TestCase):
     def test_each_two_positions(self):
