@@ -1,5 +1,6 @@
 """Point 5: the classes of errors."""
 
+import inspect
 import unittest
 
 from pairtells import errors
@@ -44,6 +45,12 @@ class ErrorsTest(unittest.TestCase):
             first, second = each(["a"]), each()
             self.assertEqual(["a"], first.value)
             self.assertIsNone(second.value)
+
+    def test_each_class_with_a_field_has_an_init_of_its_own(self):
+        for each in FIELD_CLASSES:
+            self.assertTrue(inspect.isfunction(vars(each).get("__init__")), each)
+            self.assertEqual(each.__name__ + ".__init__", vars(each)["__init__"].__qualname__)
+            self.assertEqual(["self", "value"], list(inspect.signature(vars(each)["__init__"]).parameters))
 
     def test_classes_without_a_field_are_made_of_nothing(self):
         for each in [errors.PairError] + PLAIN_CLASSES:
