@@ -28,3 +28,8 @@ def check_marks(marks):
     """Raise InvalidMarks unless any object is marks."""
     if not are_marks(marks):
         raise InvalidMarks(marks)
+
+
+def is_order_of(words, value):
+    """Return whether any object is a list of all of some unlike words, each once."""
+    return isinstance(value, list) and len(value) == len(words) and all([word in value for word in words])

@@ -83,14 +83,19 @@ def twos_of(width):
     return [(i, j) for i in range(width) for j in range(i, width)]
 
 
+def all_rows(marks, width):
+    """Return the ascending list of all tuples of so many of what surely are marks, perhaps of none."""
+    rows = [()]
+    for _ in range(width):
+        rows = [row + (mark,) for row in rows for mark in marks]
+    return rows
+
+
 def full(marks, width):
     """Return the table of all rows."""
     check_marks(marks)
     check_width(width)
-    rows = [()]
-    for _ in range(width):
-        rows = [row + (mark,) for row in rows for mark in marks]
-    return Table(marks, width, rows)
+    return Table(marks, width, all_rows(marks, width))
 
 
 def like(marks):

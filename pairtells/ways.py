@@ -1,7 +1,7 @@
 """Ways: what is given of three marks, and the tables that a way keeps."""
 
 from pairtells.errors import InvalidMarks, InvalidNumber, InvalidOrder, InvalidRows, InvalidWay
-from pairtells.kinds import check_marks, is_count, is_word
+from pairtells.kinds import check_marks, is_count, is_order_of, is_word
 from pairtells.tables import Table, check_table, chosen, is_row, twos_of
 
 MOST_COUNTED_MARKS = 3
@@ -72,15 +72,9 @@ def is_majority(marks, value):
 def middle_way(marks, order):
     """Return the majority that gives the one in the middle of three, as they stand in an order."""
     check_marks(marks)
-    if not _is_order(marks, order):
+    if not is_order_of(marks, order):
         raise InvalidOrder(order)
     return {three: _middle_of(three, order) for three in threes_of(marks)}
-
-
-def _is_order(marks, value):
-    if not isinstance(value, list) or len(value) != len(marks):
-        return False
-    return all([mark in value for mark in marks])
 
 
 def _middle_of(three, order):

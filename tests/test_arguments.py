@@ -5,8 +5,9 @@ import unittest
 from pairtells.errors import InvalidMarks, InvalidNumber, InvalidTable, InvalidWay, InvalidWidth, Unlike
 from pairtells.tables import Table, chained, chosen, cut, full
 from pairtells.ways import gift_of, is_way, keeps, keeps_by_pairs, majority_at, picker
+from tests.anything import any_objects
 from tests.calls import all_calls
-from tests.objects import BITS, any_objects, assert_raises_with, middle, minority, pick, step, told
+from tests.objects import BITS, assert_raises_with, middle, minority, pick, step, told
 
 
 class ArgumentsTest(unittest.TestCase):

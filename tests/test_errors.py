@@ -4,7 +4,8 @@ import inspect
 import unittest
 
 from pairtells import errors
-from tests.objects import FIELD_CLASSES, PLAIN_CLASSES, any_objects
+from tests.anything import any_objects
+from tests.objects import FIELD_CLASSES, PLAIN_CLASSES
 
 
 class ErrorsTest(unittest.TestCase):

@@ -5,7 +5,8 @@ import unittest
 from pairtells.errors import InvalidMarks
 from pairtells.kinds import are_marks, check_marks, is_count, is_word
 from tests import objects
-from tests.objects import any_objects, assert_raises_with
+from tests.anything import any_objects
+from tests.objects import assert_raises_with
 
 
 class KindsTest(unittest.TestCase):

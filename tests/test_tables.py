@@ -9,7 +9,8 @@ from pairtells.tables import (
     Table, both_beside, by_pairs, chained, chosen, cut, full, lies_in, like, more_by_pairs, pairs_of, told_by_pairs,
     turned,
 )
-from tests.objects import BITS, FIVE, THREE, all_tables, any_objects, assert_raises_with, drawn_table, step
+from tests.anything import any_objects
+from tests.objects import BITS, FIVE, THREE, all_tables, assert_raises_with, drawn_table, step
 
 
 def narrow_tables():

@@ -10,9 +10,10 @@ from pairtells.ways import (
     closed_by, gift_of, is_majority, is_way, is_why_broken, keeps, keeps_by_pairs, majority_at, many_majorities,
     middle_way, picker, why_broken,
 )
+from tests.anything import any_objects
 from tests import objects
 from tests.objects import (
-    BITS, FIVE, THREE, all_tables, any_objects, assert_raises_with, backwards, closure, drawn_majority, drawn_table,
+    BITS, FIVE, THREE, all_tables, assert_raises_with, backwards, closure, drawn_majority, drawn_table,
     gift, is_kept, middle, minority, pick, some_ways, step, threes,
 )
 
