@@ -5,7 +5,9 @@ import itertools
 import re
 
 from pairtells import errors
+from pairtells.books import Book
 from pairtells.errors import PairError
+from pairtells.nets import Net
 from pairtells.tables import Table
 
 BITS = ["a", "b"]
@@ -147,9 +149,13 @@ def drawn_table(marks, width, drawn, most=12):
 
 
 def told(value):
-    """Return what a value tells, tables by their methods, such that kinds and orders count, too."""
+    """Return what a value tells, tables, books and nets by their methods, such that kinds and orders count, too."""
     if isinstance(value, Table):
         return "Table", value.marks(), value.width(), value.rows()
+    if isinstance(value, Book):
+        return "Book", value.marks(), [(name, told(value.table(name))) for name in value.names()]
+    if isinstance(value, Net):
+        return "Net", told(value.book()), value.places(), told(value.wishes())
     if isinstance(value, dict):
         return "dict", [(told(key), told(worth)) for key, worth in value.items()]
     if isinstance(value, (list, tuple)):
