@@ -1,6 +1,6 @@
 """Books of tables, the majorities that keep them, and the bars against all of these."""
 
-from itertools import combinations
+from itertools import combinations, permutations
 
 from pairtells.errors import InvalidBook, InvalidMarks, InvalidName, InvalidSteps, InvalidTable, InvalidWay
 from pairtells.errors import Refused, Unmajored
@@ -22,6 +22,8 @@ class Book:
             raise InvalidTable(tables)
         self._marks = list(marks)
         self._tables = {name: tables[name] for name in sorted(tables)}
+        # What keeps a book is asked at nearly every call about its nets: it is looked for once, and stands here then.
+        self._majorities = []
 
     def marks(self):
         """Return the ascending list of the marks."""
@@ -35,6 +37,13 @@ class Book:
         """Return the table of a name."""
         check_name(self, name)
         return self._tables[name]
+
+    def some_majority(self):
+        """Return a majority over at most three marks that keeps all tables, None if there is none."""
+        if not self._majorities:
+            self._majorities.append(first_majority(self._marks, list(self._tables.items())))
+        way = self._majorities[0]
+        return None if way is None else {three: way[three] for three in way}
 
     def __eq__(self, other):
         return isinstance(other, Book) and self._marks == other._marks and self._tables == other._tables
@@ -215,9 +224,10 @@ def _clashes_in(table):
 
 
 def _columns_of(table):
-    """Return the dictionary from what three rows hold, position by position, to three rows that hold it."""
+    """Return the dictionary from what three unlike rows hold, position by position, to three rows that hold it."""
     rows = table.rows()
-    return {tuple(zip(one, two, three)): (one, two, three) for one in rows for two in rows for three in rows}
+    # Of three rows two of which are alike every majority gives these.
+    return {tuple(zip(one, two, three)): (one, two, three) for one, two, three in permutations(rows, 3)}
 
 
 def what_comes(columns, given):
@@ -240,7 +250,7 @@ def _clashes_in_book(book):
 def majority_of(book):
     """Return a majority that keeps a book, None if there is none."""
     check_small_book(book)
-    return first_majority(book.marks(), list(tables_of(book).items()))
+    return book.some_majority()
 
 
 def is_majored(book):
