@@ -1,7 +1,10 @@
 """Any objects (point 2), near misses of every argument of the interface among them."""
 
+from pairtells.books import Book, bar_of
 from pairtells.errors import InvalidMarks, NothingToUndo, PairError
-from pairtells.tables import Table
+from pairtells.nets import Net
+from pairtells.tables import Table, full
+from tests.judges import both_book, ladder, ladder_book, odd, ring
 from tests.objects import BITS, FIVE, THREE, backwards, middle, minority, pick, step
 
 
@@ -13,7 +16,8 @@ def deep(inner, depth):
 
 def any_objects():
     """Return a new list of objects of every kind, near misses of every argument among them."""
-    return plain_objects() + lists() + tuples() + dictionaries() + own_objects()
+    plain = plain_objects() + lists() + tuples() + dictionaries()
+    return plain + net_lists() + net_dictionaries() + bars() + own_objects()
 
 
 def plain_objects():
@@ -79,4 +83,63 @@ def own_objects():
         Table(BITS, 2, [("a", "b"), ("b", "a")]), Table(THREE, 2, []), Table(THREE, 3, [("a", "b", "c")]),
         Table(BITS, 4, [("a", "b", "b", "a")]), Table(FIVE, 1, [("e",)]),
     ]
-    return tables + [PairError(), InvalidMarks(), InvalidMarks(["a"]), NothingToUndo()]
+    wide = Table(THREE, 2, full(THREE, 2).rows()[:7])
+    books = [
+        Book(["a"], {}), Book(list(BITS), {}), Book(list(THREE), {}), ladder_book(), both_book(), Book(FIVE[:4], {}),
+        Book(list(FIVE), {"t": full(FIVE, 1)}), Book(list(THREE), {"ring": ring()}), Book(list(THREE), {"wide": wide}),
+        Book(list(BITS), {"four": Table(BITS, 4, [])}), Book(list(BITS), {"t": Table(BITS, 2, [("a", "b"), ("b", "a")])}),
+    ]
+    nets = [
+        ladder(), odd(), Net(books[1], ["x"], []), Net(books[5], ["x"], []), Net(books[4], ["x", "y"], []),
+        Net(books[6], ["x", "y"], [("t", ["x"])]),
+    ]
+    return tables + books + nets + [PairError(), InvalidMarks(), InvalidMarks(["a"]), NothingToUndo()]
+
+
+def net_lists():
+    """Return lists and tuples of places, wishes, strikes and fillings, near misses among them."""
+    words = [
+        ["x"], ["y"], ["u"], ["x", "y"], ["y", "x"], ["x", "x"], ["x", "y", "z"], ["z", "x", "y"], ["x", "y", "y"],
+        ["x", "y", "z", "u"], ["x", None], ["x", ["y"]], ("x", "y"), ("x", "y", "z"), "x", "y", "z", "u", "step", "ring",
+        ["step"], ["x", "y", "z", "x"], ["X"], ["x", "u"], "pa", "pb", "ph", "qa", "qb",
+    ]
+    wishes = [
+        [("step", ["x", "y"])], [("step", ["x", "y"]), ("step", ["y", "y"])], [("step", ("x", "y"))], [("step", ["x"])],
+        [["step", ["x", "y"]]], [("ring", ["x", "y"])], [("step", ["x", "u"])], [("step", ["x", "y"], "z")],
+        ("step", ["x", "y"]), [("step", ["x", "y"]), None], [(None, ["x", "y"])], [("step", "xy")],
+    ]
+    strike = ("x", "z", "b", "a", "y")
+    strikes = [
+        [strike], [strike, strike], [list(strike)], (strike,), strike, strike[:4], list(strike[:4]), [strike[:4]],
+        [("z", "x", "a", "b", "y")], ("z", "x", "a", "b"), ("x", "x", "a", "b"), ("x", "x", "a", "a"), ("x", "z", "a", "d"),
+        [("x", "z", "c", "a", "y"), strike], [("x", "z", "b", "a", "x")], ("nothing",), ["nothing"], ("nothing", "nothing"),
+        ("x", "z", "b", None), (None, None, None, None), ("x", "u", "a", "a"),
+    ]
+    filling = {"x": "a", "y": "b", "z": "c"}
+    return words + wishes + strikes + [[dict(filling)] * 3, [dict(filling)] * 2, [dict(filling), {}, {}], (filling,) * 3]
+
+
+def net_dictionaries():
+    """Return choices, fillings, what sends places, what is wanted at them, and dictionaries of tables."""
+    filling, orders = {"x": "a", "y": "b", "z": "c"}, {"x": list("abc"), "y": list("bca"), "z": list("cab")}
+    sent = {"x": "x", "y": "y", "z": "y"}
+    return [
+        {"x": "a"}, {"x": "b", "z": "a"}, {"x": "d"}, {"u": "a"}, {"x": None}, {"x": ["a"]}, {"x": "a", None: "a"}, filling,
+        backwards(filling), {**filling, "z": "a"}, {**filling, "z": "d"}, {**filling, "u": "a"}, {**filling, "z": ("c",)},
+        sent, {**sent, "z": "Z"}, {**sent, "z": None}, {**sent, "u": "u"}, {"x": "x", "y": "y"}, {**sent, "z": ["z"]},
+        orders, {**orders, "z": list("ab")}, {**orders, "z": tuple("abc")}, {**orders, "u": list("abc")},
+        {**orders, "z": list("aab")}, {**orders, "z": "abc"}, {**orders, "z": None}, {"x": list("abc")},
+        {"step": step()}, {"ring": ring(), "step": step()}, {"Step": step()}, {"step": None}, {"step": Table(BITS, 1, [])},
+        {1: step()}, {"step": [step()]}, {"a": step(), ("b",): step()},
+    ]
+
+
+def bars():
+    """Return what is a bar against the book of a step and a ring or against that of one broken table, and near misses."""
+    rows = (("a", "a", "b"), ("a", "b", "a"), ("b", "a", "a"))
+    bar = bar_of(both_book())
+    return [
+        bar, list(bar), bar[2], bar[:2], ("split", ("a", "b", "c"), {}), ("split", ("a", "a", "b"), bar[2]), ("broken", "one", rows),
+        ("broken", "one", list(rows)), ("broken", "two", rows), ("broken", "one", rows[:2]), ("broken", None, None),
+        ("split", None, None), (None, None, None), ("broken", "step", (("a", "a"), ("a", "b"), ("b", "b"))),
+    ]

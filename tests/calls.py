@@ -1,4 +1,4 @@
-"""Every function of the interface, with arguments that fit, and what is asked of each argument."""
+"""Functions of the interface, with arguments that fit, and what is asked of each argument: tables and ways."""
 
 from pairtells import errors, tables, ways
 from pairtells.tables import Table
@@ -8,12 +8,16 @@ from tests.objects import backwards, middle, minority, pick, step
 
 
 class Parameter:
-    """A name, the error of what does not fit, and whether any object fits (behind the arguments ahead of it)."""
+    """A name, the error of what does not fit, and whether any object fits (behind the arguments ahead of it).
 
-    def __init__(self, name, error, fits):
+    The field of the error is what does not fit, but where `field` tells another thing of it and what is ahead of it.
+    """
+
+    def __init__(self, name, error, fits, field=lambda value, *ahead: value):
         self.name = name
         self.error = error
         self.fits = fits
+        self.field = field
 
 
 class Call:
@@ -128,7 +132,3 @@ def way_calls():
         Call(ways.closed_by, table_and_way, lambda: [broken_table(), minority(BITS)]),
         Call(ways.keeps_by_pairs, [table_here(), way_here(is_majority)], lambda: [step(), middle(THREE, THREE)]),
     ]
-
-
-def all_calls():
-    return table_calls() + way_calls()

@@ -169,6 +169,11 @@ def fillings_of(net):
     ]
 
 
+def held_by_fillings(net, choice):
+    """Return whether some filling has all of a choice."""
+    return any(all(some[place] == choice[place] for place in choice) for some in fillings_of(net))
+
+
 def twos_of(net):
     return list(itertools.combinations_with_replacement(net.places(), 2))
 

@@ -2,12 +2,20 @@
 
 import unittest
 
-from pairtells.errors import InvalidMarks, InvalidNumber, InvalidTable, InvalidWay, InvalidWidth, Unlike
+from pairtells.errors import (
+    InvalidMarks, InvalidNumber, InvalidTable, InvalidWay, InvalidWidth, Refused, Unlike, Unmajored,
+)
 from pairtells.tables import Table, chained, chosen, cut, full
 from pairtells.ways import gift_of, is_way, keeps, keeps_by_pairs, majority_at, picker
 from tests.anything import any_objects
-from tests.calls import all_calls
+from tests.all_calls import all_calls
 from tests.objects import BITS, assert_raises_with, middle, minority, pick, step, told
+
+
+JUDGES = [
+    "is_way", "is_majority", "is_why_broken", "is_bar", "is_filling", "are_strikes", "are_all_strikes", "is_why_empty",
+    "is_why_not_on",
+]
 
 
 class ArgumentsTest(unittest.TestCase):
@@ -18,12 +26,14 @@ class ArgumentsTest(unittest.TestCase):
                     self.judge(call, at, parameter)
 
     def judge(self, call, at, parameter):
-        wrong = [value for value in any_objects() if not parameter.fits(value, *call.make()[:at])]
+        ahead = call.make()[:at]
+        wrong = [value for value in any_objects() if not parameter.fits(value, *ahead)]
         self.assertGreater(len(wrong), 60)
         for value in wrong:
+            field = parameter.field(value, *ahead)
             for values in self.with_wrong(call, at, value):
-                assert_raises_with(self, parameter.error, value, call.function, *values)
-                assert_raises_with(self, parameter.error, value, call.function, **call.named(values))
+                assert_raises_with(self, parameter.error, field, call.function, *values)
+                assert_raises_with(self, parameter.error, field, call.function, **call.named(values))
 
     def with_wrong(self, call, at, value):
         """Return lists of arguments with a wrong one, and what fits or does not fit behind it."""
@@ -32,13 +42,16 @@ class ArgumentsTest(unittest.TestCase):
         behind = [good[at + 1:]] + [[thing] * (len(good) - at - 1) for thing in junk]
         return [good[:at] + [value] + rest for rest in behind[:1 if at + 1 == len(good) else None]]
 
-    def test_objects_that_fit_raise_nothing(self):
+    def test_objects_that_fit_are_let(self):
         for call in all_calls():
-            for at, parameter in enumerate(call.parameters):
-                values = call.make()
-                for value in any_objects():
-                    if at + 1 == len(values) and parameter.fits(value, *values[:at]) and not isinstance(value, Table):
-                        call.function(*values[:at], value)
+            *ahead, _ = call.make()
+            for value in any_objects():
+                if call.parameters[-1].fits(value, *ahead):
+                    try:
+                        call.function(*ahead, value)
+                    except (Unlike, Unmajored, Refused):
+                        # These are told of arguments that fit one by one.
+                        pass
 
     def test_positions_and_names_are_the_same(self):
         for call in all_calls():
@@ -49,7 +62,7 @@ class ArgumentsTest(unittest.TestCase):
 
     def test_a_last_value_is_judged_whatever_it_is(self):
         judges = [call for call in all_calls() if call.parameters[-1].name == "value"]
-        self.assertEqual(["is_way", "is_majority", "is_why_broken"], [call.function.__name__ for call in judges])
+        self.assertEqual(JUDGES, [call.function.__name__ for call in judges])
         for call in judges:
             self.assertIs(True, call.function(*call.make()))
             for value in any_objects():

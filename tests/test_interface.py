@@ -1,79 +1,127 @@
 """The interface: names, arguments, kinds of values, and the files in which all is defined."""
 
+import importlib
 import inspect
+import re
 import unittest
 
-from pairtells import errors, tables, ways
+from pairtells import errors
+from pairtells.books import Book
+from pairtells.nets import Net
 from pairtells.tables import Table
-from tests.calls import all_calls
+from tests.all_calls import all_calls
 from tests.objects import FIELD_CLASSES, PLAIN_CLASSES
 
-TABLES = {
-    "full": ["marks", "width"], "like": ["marks"], "cut": ["one", "other"], "lies_in": ["one", "other"],
-    "chosen": ["table", "spots"], "pairs_of": ["table"], "turned": ["table"], "chained": ["one", "other"],
-    "by_pairs": ["table"], "told_by_pairs": ["table"], "more_by_pairs": ["table"], "both_beside": ["one", "other"],
-}
-WAYS = {
-    "is_way": ["marks", "value"], "picker": ["marks", "number"], "is_majority": ["marks", "value"],
-    "middle_way": ["marks", "order"], "many_majorities": ["marks"], "majority_at": ["marks", "number"],
-    "keeps": ["table", "way"], "why_broken": ["table", "way"], "is_why_broken": ["table", "way", "value"],
-    "gift_of": ["way", "rows"], "closed_by": ["table", "way"], "keeps_by_pairs": ["table", "way"],
+LISTED = """
+pairtells.tables: Table(marks, width, rows), full(marks, width), like(marks), cut(one, other), lies_in(one, other),
+    chosen(table, spots), pairs_of(table), turned(table), chained(one, other), by_pairs(table), told_by_pairs(table),
+    more_by_pairs(table), both_beside(one, other)
+pairtells.ways: is_way(marks, value), picker(marks, number), is_majority(marks, value), middle_way(marks, order),
+    many_majorities(marks), majority_at(marks, number), keeps(table, way), why_broken(table, way),
+    is_why_broken(table, way, value), gift_of(way, rows), closed_by(table, way), keeps_by_pairs(table, way)
+pairtells.books: Book(marks, tables), with_table(book, name, table), without_table(book, name), put_together(one, other),
+    keeps_book(book, way), majority_of(book), is_majored(book), many_keeping(book), bar_of(book), is_bar(book, value),
+    splits_in(book, bar), deepest_in(book, bar), common_majority(one, other), unmajored_least(book)
+pairtells.nets: Net(book, places, wishes), is_filling(net, value), broken_wishes(net, filling), wishes_at(net, place),
+    neighbours(net, place), pieces(net), net_sent(net, sent), with_wish(net, name, places),
+    without_wish(net, name, places), with_place(net, place), joined(one, other), cut_to(net, places),
+    held_by(net, name), wish_counts(net)
+pairtells.strikes: first_pairs(net, one, other), may_strike(net, gone, pair), are_strikes(net, value),
+    are_all_strikes(net, value), strikes(net), left(net), left_pairs(net, one, other), rounds(net), is_empty(net),
+    why_empty(net), is_why_empty(net, value), left_marks(net, one), left_with(net, choice)
+pairtells.fillings: goes_on(net, choice), why_not_on(net, choice), is_why_not_on(net, choice, value),
+    next_marks(net, choice, place), first_filling(net), last_filling(net), filling_behind(net, filling),
+    all_fillings(net), many_fillings(net), middle_of(net, way, fillings), filled_by(net, order, wanted)
+"""
+METHODS = {
+    Table: ["marks()", "width()", "rows()"], Book: ["marks()", "names()", "table(name)"],
+    Net: ["book()", "places()", "wishes()"],
 }
 KINDS = {
-    "Table": Table, "full": Table, "like": Table, "cut": Table, "lies_in": bool, "chosen": Table, "pairs_of": dict,
-    "turned": Table, "chained": Table, "by_pairs": Table, "told_by_pairs": bool, "more_by_pairs": list,
-    "both_beside": Table, "is_way": bool, "picker": dict, "is_majority": bool, "middle_way": dict,
-    "many_majorities": int, "majority_at": dict, "keeps": bool, "why_broken": tuple, "is_why_broken": bool,
-    "gift_of": tuple, "closed_by": Table, "keeps_by_pairs": bool,
+    "bool": """lies_in told_by_pairs is_way is_majority is_why_broken keeps keeps_by_pairs keeps_book is_majored is_bar
+        is_filling are_strikes are_all_strikes is_empty is_why_empty goes_on is_why_not_on""",
+    "int": "many_majorities many_keeping splits_in deepest_in many_fillings",
+    "dict": """pairs_of picker middle_way majority_at majority_of common_majority wish_counts left left_with first_filling
+        last_filling filling_behind middle_of filled_by""",
+    "list": """more_by_pairs unmajored_least broken_wishes wishes_at neighbours pieces held_by first_pairs may_strike
+        strikes left_pairs rounds why_empty left_marks next_marks all_fillings""",
+    "tuple": "why_broken gift_of bar_of why_not_on",
+    "Table": "Table full like cut chosen turned chained by_pairs both_beside closed_by",
+    "Book": "Book with_table without_table put_together",
+    "Net": "Net net_sent with_wish without_wish with_place joined cut_to",
 }
+
+
+def listed():
+    """Return the list of what is listed, as tuples of a module, a name and the parameters."""
+    found = []
+    for line in re.sub("\n +", " ", LISTED.strip()).split("\n"):
+        module, rest = line.split(": ")
+        for name, parameters in re.findall(r"(\w+)\(([\w, ]*)\)", rest):
+            found.append((module, name, parameters.split(", ")))
+    return found
+
+
+def parameters_of(function):
+    return list(inspect.signature(function).parameters)
 
 
 class InterfaceTest(unittest.TestCase):
-    def test_functions_stand_in_their_files(self):
-        for module, listed in ((tables, TABLES), (ways, WAYS)):
-            for name, parameters in listed.items():
-                function = getattr(module, name)
-                self.assertTrue(inspect.isfunction(function))
-                self.assertEqual(module.__name__, function.__module__)
-                self.assertEqual(name, function.__name__)
-                self.assertEqual(parameters, list(inspect.signature(function).parameters))
+    def test_names_stand_in_their_files(self):
+        for module, name, parameters in listed():
+            thing = getattr(importlib.import_module(module), name)
+            self.assertTrue(inspect.isfunction(thing) or thing in METHODS)
+            self.assertEqual((module, name), (thing.__module__, thing.__name__))
+            self.assertEqual(parameters, parameters_of(thing))
 
-    def test_table_and_its_methods_stand_in_their_file(self):
-        self.assertEqual("pairtells.tables", Table.__module__)
-        self.assertEqual(["marks", "width", "rows"], list(inspect.signature(Table).parameters))
-        for name in ("__init__", "__eq__", "marks", "width", "rows"):
-            self.assertTrue(inspect.isfunction(vars(Table)[name]))
-        for name in ("marks", "width", "rows"):
-            self.assertEqual(["self"], list(inspect.signature(vars(Table)[name]).parameters))
+    def test_methods_stand_in_their_classes(self):
+        for each, methods in METHODS.items():
+            for name in ("__init__", "__eq__"):
+                self.assertTrue(inspect.isfunction(vars(each)[name]))
+            for method in methods:
+                name, parameters = method[:-1].split("(")
+                self.assertTrue(inspect.isfunction(vars(each)[name]))
+                self.assertEqual(["self"] + parameters.split(), parameters_of(vars(each)[name]))
 
     def test_errors_stand_in_their_file(self):
         for each in [errors.PairError] + FIELD_CLASSES + PLAIN_CLASSES:
             self.assertIs(each, vars(errors)[each.__name__])
             self.assertEqual("pairtells.errors", each.__module__)
         for each in FIELD_CLASSES:
-            self.assertEqual(["value"], list(inspect.signature(each).parameters))
+            self.assertEqual(["value"], parameters_of(each))
 
     def test_all_functions_are_tried(self):
-        names = [call.function.__name__ for call in all_calls()]
-        self.assertEqual(["Table"] + list(TABLES) + list(WAYS), names)
+        self.assertEqual([name for _, name, _ in listed()], [call.function.__name__ for call in all_calls()])
         for call in all_calls():
-            parameters = [parameter.name for parameter in call.parameters]
-            self.assertEqual(parameters, list(inspect.signature(call.function).parameters))
+            self.assertEqual([parameter.name for parameter in call.parameters], parameters_of(call.function))
 
     def test_kinds_of_values(self):
         for call in all_calls():
-            self.assertIs(KINDS[call.function.__name__], type(call.function(*call.make())), call.function)
+            name = type(call.function(*call.make())).__name__
+            self.assertIn(call.function.__name__, KINDS[name].split(), call.function)
 
-    def test_kinds_of_values_within_tables(self):
+    def test_kinds_of_values_within_tables_books_and_nets(self):
         table = Table(["a", "b"], 2, [("b", "a"), ("a", "a")])
-        self.assertEqual([list, int, list], [type(told) for told in (table.marks(), table.width(), table.rows())])
+        book = Book(["a", "b"], {"t": table})
+        net = Net(book, ["y", "x"], [("t", ["x", "y"])])
+        self.assertEqual([list, int, list], [type(some) for some in (table.marks(), table.width(), table.rows())])
         self.assertEqual([tuple, tuple], [type(row) for row in table.rows()])
+        self.assertEqual([list, list, Table], [type(some) for some in (book.marks(), book.names(), book.table("t"))])
+        self.assertEqual([Book, list, list], [type(some) for some in (net.book(), net.places(), net.wishes())])
+        self.assertEqual([(str, list)], [(type(name), type(held)) for name, held in net.wishes()])
 
     def test_dictionaries_have_ascending_keys(self):
         for call in all_calls():
-            result = call.function(*call.make())
-            if isinstance(result, dict):
-                self.assertEqual(sorted(result), list(result), call.function)
+            self.judge_keys(call.function(*call.make()), call)
+
+    def judge_keys(self, result, call):
+        if isinstance(result, dict):
+            self.assertEqual(sorted(result), list(result), call.function)
+            for worth in result.values():
+                self.judge_keys(worth, call)
+        if isinstance(result, (list, tuple)):
+            for item in result:
+                self.judge_keys(item, call)
 
 
 if __name__ == "__main__":

@@ -3,10 +3,18 @@
 import itertools
 import unittest
 
-from pairtells.errors import InvalidMarks, InvalidOrder, InvalidRows, InvalidSpots, InvalidWay
+from pairtells.books import Book, bar_of, is_bar, is_majored, majority_of, splits_in
+from pairtells.errors import (
+    InvalidChoice, InvalidFilling, InvalidMarks, InvalidOrder, InvalidPlaces, InvalidRows, InvalidSpots, InvalidSteps,
+    InvalidStrikes, InvalidTable, InvalidWay, InvalidWishes,
+)
+from pairtells.fillings import all_fillings, filled_by, filling_behind, goes_on
+from pairtells.nets import Net, is_filling
+from pairtells.strikes import are_strikes, left, may_strike
 from pairtells.tables import Table, chosen, full, pairs_of
 from pairtells.ways import gift_of, is_majority, is_way, keeps, middle_way, picker, why_broken
-from tests.calls import all_calls
+from tests.all_calls import all_calls
+from tests.judges import both_book, ladder, ladder_book, ring
 from tests.objects import BITS, THREE, assert_raises_with, copied, middle, minority, spoil, step, told
 
 
@@ -72,6 +80,48 @@ class KeptTest(unittest.TestCase):
             spoil(list(pairs_of(other).values()))
         self.assertEqual(step(), table)
 
+    def test_what_books_and_nets_tell_may_be_changed(self):
+        book, net = both_book(), ladder()
+        for some in (book.marks, book.names, net.places, net.wishes):
+            before = told(some())
+            spoil(some())
+            self.assertEqual(before, told(some()))
+        self.assertEqual((both_book(), ladder()), (book, net))
+
+    def test_what_is_handed_to_a_book_is_not_kept(self):
+        marks, tables = list(THREE), {"step": step(), "ring": ring()}
+        book = Book(marks, tables)
+        tables["step"] = ring()
+        tables["more"] = step()
+        marks.append("d")
+        self.assertEqual(both_book(), book)
+        tables.clear()
+        marks.clear()
+        self.assertEqual((["a", "b", "c"], ["ring", "step"], step()), (book.marks(), book.names(), book.table("step")))
+
+    def test_what_is_handed_to_a_net_is_not_kept(self):
+        places, held, other = ["z", "y", "x"], ["x", "y"], ["y", "z"]
+        wishes = [("step", held), ("step", other)]
+        net = Net(ladder_book(), places, wishes)
+        before = [told(left(net)), told(all_fillings(net)), told(is_filling(net, {"x": "a", "y": "a", "z": "b"}))]
+        held[0], other[1] = "z", "y"
+        places.pop()
+        wishes.append(("step", ["x", "x"]))
+        self.assertEqual(ladder(), net)
+        spoil([places, wishes, held, other])
+        self.assertEqual(ladder(), net)
+        self.assertEqual([("step", ["x", "y"]), ("step", ["y", "z"])], net.wishes())
+        after = [told(left(net)), told(all_fillings(net)), told(is_filling(net, {"x": "a", "y": "a", "z": "b"}))]
+        self.assertEqual(before, after)
+
+    def test_a_majority_that_was_told_may_be_changed(self):
+        book = ladder_book()
+        for _ in range(3):
+            way = majority_of(book)
+            self.assertEqual(middle(THREE, THREE), way)
+            spoil(way)
+        self.assertIs(True, is_majored(book))
+
     def test_equal_arguments_give_equal_results(self):
         for call in all_calls():
             values = call.make()
@@ -79,6 +129,54 @@ class KeptTest(unittest.TestCase):
 
 
 class LetThenWrongTest(unittest.TestCase):
+    def test_tables_and_places_and_wishes(self):
+        tables, places, held = {"step": step()}, ["x", "y"], ["x", "y"]
+        wishes = [("step", held)]
+        for _ in range(2):
+            self.assertEqual(Net(Book(THREE, tables), places, wishes), Net(ladder_book(), ["y", "x"], [("step", ["x", "y"])]))
+            tables["ring"] = Table(BITS, 2, [])
+            assert_raises_with(self, InvalidTable, tables, Book, THREE, tables)
+            del tables["ring"]
+            held.append("x")
+            assert_raises_with(self, InvalidWishes, wishes, Net, ladder_book(), places, wishes)
+            held.pop()
+            places[1] = "x"
+            assert_raises_with(self, InvalidPlaces, places, Net, ladder_book(), places, wishes)
+            places[1] = "y"
+
+    def test_choices_fillings_and_wanted(self):
+        net, choice, filling = ladder(), {"x": "a"}, {"x": "a", "y": "a", "z": "a"}
+        order, wanted = ["x", "y", "z"], {place: list(THREE) for place in "xyz"}
+        for _ in range(2):
+            self.assertIs(True, goes_on(net, choice))
+            choice["y"] = ["a"]
+            assert_raises_with(self, InvalidChoice, choice, goes_on, net, choice)
+            del choice["y"]
+            self.assertIs(True, is_filling(net, filling))
+            self.assertEqual({"x": "a", "y": "a", "z": "b"}, filling_behind(net, filling))
+            filling["u"] = "a"
+            self.assertIs(False, is_filling(net, filling))
+            assert_raises_with(self, InvalidFilling, filling, filling_behind, net, filling)
+            del filling["u"]
+            self.assertEqual(filling, filled_by(net, order, wanted))
+            wanted["y"][0] = "c"
+            assert_raises_with(self, InvalidOrder, wanted, filled_by, net, order, wanted)
+            wanted["y"][0] = "a"
+
+    def test_strikes_and_bars(self):
+        gone, bar = [("x", "z", "b", "a", "y")], bar_of(both_book())
+        for _ in range(2):
+            self.assertIs(True, are_strikes(ladder(), gone))
+            gone.append(gone[0])
+            self.assertIs(False, are_strikes(ladder(), gone))
+            assert_raises_with(self, InvalidStrikes, gone, may_strike, ladder(), gone, None)
+            gone.pop()
+            self.assertIs(True, is_bar(both_book(), bar))
+            mark_bar = bar[2].pop("a")
+            self.assertIs(False, is_bar(both_book(), bar))
+            assert_raises_with(self, InvalidSteps, bar, splits_in, both_book(), bar)
+            bar[2]["a"] = mark_bar
+
     def test_marks(self):
         marks = ["a", "b"]
         for call in (lambda: full(marks, 2), lambda: picker(marks, 0), lambda: Table(marks, 1, [])):

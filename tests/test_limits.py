@@ -1,11 +1,19 @@
 """Point 3: within its limits every call comes to an end in a short time."""
 
+import random
 import time
 import unittest
 
+from pairtells.books import (
+    Book, bar_of, common_majority, is_bar, is_majored, majority_of, many_keeping, splits_in, unmajored_least,
+)
 from pairtells.errors import InvalidMarks
+from pairtells.fillings import all_fillings, filled_by, first_filling, last_filling, many_fillings
+from pairtells.nets import Net
+from pairtells.strikes import are_all_strikes, is_empty, left, left_with, rounds, strikes
 from pairtells.tables import Table, both_beside, by_pairs, chosen, cut, full, lies_in, more_by_pairs, pairs_of
 from pairtells.ways import closed_by, keeps, keeps_by_pairs, majority_at, many_majorities, why_broken
+from tests.judges import both_book, drawn_majored_book, drawn_net
 from tests.objects import FIVE, THREE, middle, pick, threes
 
 # Many times what a call takes: what is told is that it ends soon, whatever else the machine does.
@@ -50,6 +58,62 @@ class LimitsTest(unittest.TestCase):
                 many_majorities(marks)
             with self.assertRaises(InvalidMarks):
                 majority_at(marks, 10 ** 29)
+
+    def test_books_of_four_tables_of_twelve_rows(self):
+        drawn = random.Random(1)
+        for _ in range(5):
+            majored = drawn_majored_book(THREE, drawn, 4, (3, 4), 8)
+            rows = [drawn.sample(full(THREE, 4).rows(), 12) for _ in range(4)]
+            wild = Book(list(THREE), {name: Table(THREE, 4, some) for name, some in zip("abcd", rows)})
+            for book in (majored, wild):
+                self.assertEqual(is_majored(book), majority_of(book) is not None)
+                self.assertEqual(is_majored(book), many_keeping(book) > 0)
+                self.assertEqual(is_majored(book), unmajored_least(book) is None)
+                if not is_majored(book):
+                    self.assertIs(True, is_bar(book, bar_of(book)))
+                self.assertIs(is_majored(book), common_majority(book, book) is not None)
+
+    def test_deep_bars(self):
+        # Splits that are needless make a bar deeper, and it bars all the same.
+        book = both_book()
+        bar = bar_of(book)
+        self.assertGreater(splits_in(book, bar), 1)
+        deep, threes_left = bar, [three for three in threes(THREE) if len(set(three)) == 3]
+        while threes_left and not has_split(bar, threes_left[-1]):
+            deep = ("split", threes_left.pop(), {mark: deep for mark in THREE})
+        self.assertIs(True, is_bar(book, deep))
+
+    def test_nets_of_seven_places_and_ten_wishes(self):
+        drawn = random.Random(2)
+        for _ in range(6):
+            net = drawn_net(drawn_majored_book(THREE, drawn, 4, (2, 3, 4), 6), drawn, 7, 10)
+            self.assertEqual(is_empty(net), first_filling(net) is None)
+            self.assertIs(True, are_all_strikes(net, strikes(net)))
+            self.assertEqual(len(strikes(net)), sum(len(some) for some in rounds(net)))
+            self.assertEqual(left(net), left_with(net, {}))
+            order = drawn.sample(net.places(), 7)
+            filling = filled_by(net, order, {place: drawn.sample(THREE, 3) for place in order})
+            self.assertEqual(filling is None, last_filling(net) is None)
+
+    def test_two_hundred_fillings(self):
+        marks, places = FIVE, ["p", "q", "r", "s", "t", "u", "v"]
+        pairs = [(mark, other) for mark, other in zip(marks, marks[1:])] + [(mark, mark) for mark in marks]
+        net = Net(Book(marks, {"t": Table(marks, 2, pairs)}), places, [("t", list(two)) for two in zip(places, places[1:])])
+        self.assertEqual(many_fillings(net), len(all_fillings(net)))
+        self.assertTrue(100 < many_fillings(net) <= 200)
+        self.assertIs(False, is_empty(net))
+
+    def test_few_fillings_among_many_dictionaries(self):
+        marks, places = FIVE, ["p", "q", "r", "s", "t", "u", "v"]
+        unlike = Table(marks, 2, [(one, other) for one in marks for other in marks if one < other or (one, other) == ("e", "a")])
+        wishes = [("t", list(two)) for two in zip(places, places[1:] + places[:1])]
+        net = Net(Book(marks, {"t": Table(marks, 2, unlike.rows()[:12])}), places, wishes)
+        self.assertEqual(many_fillings(net), len(all_fillings(net)))
+
+
+def has_split(bar, three):
+    word, what, below = bar
+    return word == "split" and (what == three or any(has_split(other, three) for other in below.values()))
 
 
 if __name__ == "__main__":

@@ -1,0 +1,8 @@
+"""Every function of the interface that there is."""
+
+from tests.calls import table_calls, way_calls
+from tests.net_calls import book_calls, filling_calls, net_calls, strike_calls
+
+
+def all_calls():
+    return table_calls() + way_calls() + book_calls() + net_calls() + strike_calls() + filling_calls()
