@@ -2,6 +2,7 @@
 
 from pairtells.books import check_bar, check_small_book
 from pairtells.errors import InvalidBook, InvalidFilling, InvalidPlace, InvalidRows, InvalidWay
+from pairtells.kinds import LETTERS
 from pairtells.nets import Net, are_keys
 from pairtells.tables import is_row
 from pairtells.ways import is_way_over, mark_twice_in, threes_of
@@ -9,7 +10,6 @@ from pairtells.ways import is_way_over, mark_twice_in, threes_of
 MOST_WIDTH = 3
 MOST_ROWS = 6
 FIRST_LETTERS = "pq"
-LETTERS = "abcdefghijklmnopqrstuvwxyz"
 
 
 def _check_bare_book(book):

@@ -9,7 +9,7 @@ from pairtells.strikes import left_of
 from pairtells.ways import is_way_over
 
 
-def check_small_net(net):
+def check_net_of_small_book(net):
     """Raise InvalidNet unless any object is a net of a book of at most three marks."""
     check_net(net)
     if not has_few_marks(net.book()):
@@ -51,7 +51,7 @@ def goes_on(net, choice):
 
 def why_not_on(net, choice):
     """Return a reason why no filling has all of a choice, None if it goes on."""
-    check_small_net(net)
+    check_net_of_small_book(net)
     check_choice(net, choice)
     check_majored(net.book())
     return reason_against(left_of(net), choice)
@@ -59,7 +59,7 @@ def why_not_on(net, choice):
 
 def is_why_not_on(net, choice, value):
     """Return whether any object is a reason why no filling has all of a choice."""
-    check_small_net(net)
+    check_net_of_small_book(net)
     check_choice(net, choice)
     check_majored(net.book())
     pairs = left_of(net)
@@ -76,7 +76,7 @@ def is_why_not_on(net, choice, value):
 
 def next_marks(net, choice, place):
     """Return the ascending list of the marks with which a choice that is let goes on at a place."""
-    check_small_net(net)
+    check_net_of_small_book(net)
     check_choice(net, choice)
     pairs = left_of(net)
     if reason_against(pairs, choice) is not None:
@@ -90,14 +90,14 @@ def next_marks(net, choice, place):
 
 def first_filling(net):
     """Return the first filling, None if there is none."""
-    check_small_net(net)
+    check_net_of_small_book(net)
     check_majored(net.book())
     return _filled_from(net, net.book().marks())
 
 
 def last_filling(net):
     """Return the last filling, None if there is none."""
-    check_small_net(net)
+    check_net_of_small_book(net)
     check_majored(net.book())
     return _filled_from(net, list(reversed(net.book().marks())))
 
@@ -113,7 +113,7 @@ def _filled_from(net, marks):
 
 def filling_behind(net, filling):
     """Return the next filling behind a dictionary from just the places to marks, None if there is none."""
-    check_small_net(net)
+    check_net_of_small_book(net)
     check_marking(net, filling)
     check_majored(net.book())
     pairs = left_of(net)
@@ -201,7 +201,7 @@ def middle_of(net, way, fillings):
 
 def filled_by(net, order, wanted):
     """Return the filling that comes if places are filled in an order with the first wanted mark that goes on."""
-    check_small_net(net)
+    check_net_of_small_book(net)
     places, marks = net.places(), net.book().marks()
     if not is_order_of(places, order):
         raise InvalidPlaces(order)

@@ -2,6 +2,8 @@
 
 from pairtells.errors import InvalidMarks
 
+LETTERS = "abcdefghijklmnopqrstuvwxyz"
+
 
 def is_count(value):
     """Return whether any object is a count; True and False are none."""

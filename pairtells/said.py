@@ -2,14 +2,12 @@
 
 from pairtells.books import check_majored, check_small_book
 from pairtells.errors import InvalidRows, InvalidSteps
+from pairtells.holding import Holding
 from pairtells.kinds import is_count
-from pairtells.nets import Net
 from pairtells.relations import chained_number, closed_from, full_number, like_number, number_of, rows_of
 from pairtells.relations import table_of, tables_in_order, turned_number
 from pairtells.tables import Table, all_rows, check_pair_table, check_same_marks, check_table, is_row, more_by_pairs
-from pairtells.tables import pairs_of, twos_of
-
-LETTERS = "abcdefghijklmnopqrstuvwxyz"
+from pairtells.tables import pairs_of
 
 
 def check_said_book(book):
@@ -35,7 +33,7 @@ def _check_row_beside(book, table, row):
 
 
 def _first_made(marks, tables):
-    """Return the dictionary from the numbers that are said at first to their sayings, tables being tuples with a name."""
+    """Return the dictionary from the numbers of what is said at first, of some tables with names, to their sayings."""
     made = {full_number(len(marks)): ("full",)}
     made.setdefault(like_number(len(marks)), ("like",))
     for name, table in tables:
@@ -50,7 +48,7 @@ def named_tables(book):
 
 
 def said_numbers(marks, tables):
-    """Return the dictionary from the numbers of the tables of width 2 that some tables, with names, say to what makes each.
+    """Return the dictionary from the numbers of what some tables, with names, say at two places to what makes each.
 
     Each stands behind those that it is made of.
     """
@@ -195,7 +193,7 @@ def sayings_for(book, table):
 
 
 def _numbers_needed(made, number):
-    """Return the list of the numbers that are needed to make one, this one last, in the order in which they are made."""
+    """Return the list of the numbers needed to make one, in the order in which they are made, this one last."""
     needed = {number: True}
     for other in reversed(list(made)):
         if other in needed and made[other][0] in ("cut", "chain", "turn"):
@@ -209,77 +207,6 @@ def _saying_beside(numbers, how):
     if how[0] in ("cut", "chain", "turn"):
         return (how[0], *[numbers.index(elder) for elder in how[1:]])
     return how
-
-
-class Holding:
-    """A net that grows: its places are numbers, some of them made one, and each use of a saying is held anew in it."""
-
-    def __init__(self, book, sayings):
-        self._book = book
-        self._sayings = list(sayings)
-        self._wishes = []
-        # Of each place the elder one with which it was made one, itself if there is none.
-        self._made_one = []
-
-    def new_place(self):
-        """Return a new place."""
-        self._made_one.append(len(self._made_one))
-        return len(self._made_one) - 1
-
-    def eldest_of(self, place):
-        """Return the eldest of the places that were made one with a place."""
-        while self._made_one[place] != place:
-            place = self._made_one[place]
-        return place
-
-    def make_one(self, one, other):
-        """Make two places one."""
-        elder, younger = sorted([self.eldest_of(one), self.eldest_of(other)])
-        self._made_one[younger] = elder
-
-    def hold(self, at, one, other):
-        """Hold the saying at a position between two places."""
-        saying = self._sayings[at]
-        word = saying[0]
-        if word == "like":
-            self.make_one(one, other)
-        elif word == "pair":
-            self.wish(saying, one, other)
-        elif word == "cut":
-            self.hold(saying[1], one, other)
-            self.hold(saying[2], one, other)
-        elif word == "chain":
-            between = self.new_place()
-            self.hold(saying[1], one, between)
-            self.hold(saying[2], between, other)
-        elif word == "turn":
-            self.hold(saying[1], other, one)
-
-    def wish(self, saying, one, other):
-        """Take a wish with two places at the positions of a saying of a pair, and new places at all others."""
-        _, name, i, j = saying
-        if i == j:
-            self.make_one(one, other)
-        held = {i: one, j: other}
-        width = self._book.table(name).width()
-        self._wishes.append((name, [held[spot] if spot in held else self.new_place() for spot in range(width)]))
-
-    def net(self):
-        """Return the net of what is held."""
-        places = [_word_of(place) for place in range(len(self._made_one)) if self.eldest_of(place) == place]
-        return Net(self._book, places, [(name, self.words_of(held)) for name, held in self._wishes])
-
-    def words_of(self, places):
-        """Return the list of the places of the net that some places are."""
-        return [_word_of(self.eldest_of(place)) for place in places]
-
-
-def _word_of(number):
-    word = LETTERS[number % len(LETTERS)]
-    while number >= len(LETTERS):
-        number = number // len(LETTERS)
-        word = LETTERS[number % len(LETTERS)] + word
-    return word
 
 
 def net_saying(book, sayings):
@@ -296,7 +223,7 @@ def net_saying(book, sayings):
 
 
 def is_closed_list(book, value):
-    """Return whether any object is a list of unlike tables that has what a book says at first, and what comes of it."""
+    """Return whether any object is a list of unlike tables that has what is said at first, and what comes of it."""
     check_said_book(book)
     marks = book.marks()
     if not isinstance(value, list) or not all([_is_pair_table_over(marks, table) for table in value]):
@@ -315,7 +242,7 @@ def _is_pair_table_over(marks, value):
 
 
 def _least_pairs(book, table):
-    """Return the dictionary from each two positions to the rows of the least said table above what a table has there."""
+    """Return the dictionary from each two positions to the rows of the least said table above what is there."""
     marks = book.marks()
     numbers = list(said_numbers(marks, named_tables(book)))
     least = {}

@@ -2,7 +2,9 @@
 
 from tests.calls import table_calls, way_calls
 from tests.net_calls import book_calls, filling_calls, net_calls, strike_calls
+from tests.said_calls import alike_calls, bare_calls, said_calls
 
 
 def all_calls():
-    return table_calls() + way_calls() + book_calls() + net_calls() + strike_calls() + filling_calls()
+    plain = table_calls() + way_calls() + book_calls() + net_calls() + strike_calls() + filling_calls()
+    return plain + bare_calls() + said_calls() + alike_calls()

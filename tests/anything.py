@@ -17,7 +17,20 @@ def deep(inner, depth):
 def any_objects():
     """Return a new list of objects of every kind, near misses of every argument among them."""
     plain = plain_objects() + lists() + tuples() + dictionaries()
-    return plain + net_lists() + net_dictionaries() + bars() + own_objects()
+    return plain + net_lists() + net_dictionaries() + bars() + sayings() + own_objects()
+
+
+def sayings():
+    """Return sayings, reasons why a table is not said, positions, and near misses."""
+    pair = ("pair", "step", 0, 1)
+    return [
+        [("full",)], [("like",)], [pair], [pair, ("turn", 0)], [pair, ("cut", 0, 0), ("chain", 1, 0)], [("turn", 0)],
+        [pair, ("turn", True)], [pair, ("turn", False)], [pair, ("cut", 0, 1)], [("pair", "step", 0, 2)], [pair[:3]],
+        [("pair", "ring", 0, 1)], [("pair", "step", 0, True)], [("full", 0)], [["full"]], (pair,), pair, [pair, None],
+        ("row", ("a", "a")), ("row", ("a", "c")), ("row", ["a", "c"]), ("row",), ("pair", 0, 1), ("pair", 1, 0), ("pair", 0, 0),
+        ("pair", False, True), ["pair", 0, 1], ("pair", 0, 2), (0, 0), (1, 1), (1, 0), (0, 2), [full(THREE, 2)], [step(), step()],
+        [step(), None], (False, True), (False, 1),
+    ]
 
 
 def plain_objects():

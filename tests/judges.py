@@ -7,7 +7,7 @@ import random
 from pairtells.books import Book
 from pairtells.nets import Net
 from pairtells.tables import Table
-from tests.objects import THREE, closure, drawn_majority, drawn_table, is_kept, is_word, middle, step, threes
+from tests.objects import THREE, closure, drawn_majority, drawn_table, is_word, middle, step, threes
 
 
 def ring():

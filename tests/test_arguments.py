@@ -14,7 +14,7 @@ from tests.objects import BITS, assert_raises_with, middle, minority, pick, step
 
 JUDGES = [
     "is_way", "is_majority", "is_why_broken", "is_bar", "is_filling", "are_strikes", "are_all_strikes", "is_why_empty",
-    "is_why_not_on",
+    "is_why_not_on", "are_sayings", "is_why_not_said", "is_closed_list", "is_why_beyond", "is_unlike_table",
 ]
 
 

@@ -32,6 +32,15 @@ pairtells.strikes: first_pairs(net, one, other), may_strike(net, gone, pair), ar
 pairtells.fillings: goes_on(net, choice), why_not_on(net, choice), is_why_not_on(net, choice, value),
     next_marks(net, choice, place), first_filling(net), last_filling(net), filling_behind(net, filling),
     all_fillings(net), many_fillings(net), middle_of(net, way, fillings), filled_by(net, order, wanted)
+pairtells.bare: place_of(book, three), three_of(book, place), net_of(book), filling_of(book, way),
+    way_of(book, filling), sure_choice(book), picker_for(book, one, other), barring_wishes(book, bar)
+pairtells.said: said_pairs(book), is_said(book, table), are_sayings(book, value), made_by(book, sayings),
+    sayings_for(book, table), net_saying(book, sayings), why_not_said(book, table),
+    is_why_not_said(book, table, value), is_closed_list(book, value), least_said(book, table),
+    why_beyond(book, table, row), is_why_beyond(book, table, row, value)
+pairtells.alike: says_all(one, other), say_the_same(one, other), unlike_table(one, other),
+    is_unlike_table(one, other, value), needless_names(one), bare_book(one), common_said(one, other),
+    joined_said(one, other)
 """
 METHODS = {
     Table: ["marks()", "width()", "rows()"], Book: ["marks()", "names()", "table(name)"],
@@ -39,16 +48,19 @@ METHODS = {
 }
 KINDS = {
     "bool": """lies_in told_by_pairs is_way is_majority is_why_broken keeps keeps_by_pairs keeps_book is_majored is_bar
-        is_filling are_strikes are_all_strikes is_empty is_why_empty goes_on is_why_not_on""",
-    "int": "many_majorities many_keeping splits_in deepest_in many_fillings",
+        is_filling are_strikes are_all_strikes is_empty is_why_empty goes_on is_why_not_on is_said are_sayings
+        is_why_not_said is_closed_list is_why_beyond says_all say_the_same is_unlike_table joined_said""",
+    "int": "many_majorities many_keeping splits_in deepest_in many_fillings picker_for",
+    "str": "place_of",
     "dict": """pairs_of picker middle_way majority_at majority_of common_majority wish_counts left left_with first_filling
-        last_filling filling_behind middle_of filled_by""",
+        last_filling filling_behind middle_of filled_by filling_of way_of sure_choice""",
     "list": """more_by_pairs unmajored_least broken_wishes wishes_at neighbours pieces held_by first_pairs may_strike
-        strikes left_pairs rounds why_empty left_marks next_marks all_fillings""",
-    "tuple": "why_broken gift_of bar_of why_not_on",
-    "Table": "Table full like cut chosen turned chained by_pairs both_beside closed_by",
-    "Book": "Book with_table without_table put_together",
-    "Net": "Net net_sent with_wish without_wish with_place joined cut_to",
+        strikes left_pairs rounds why_empty left_marks next_marks all_fillings barring_wishes said_pairs made_by
+        sayings_for needless_names common_said""",
+    "tuple": "why_broken gift_of bar_of why_not_on three_of net_saying why_not_said why_beyond",
+    "Table": "Table full like cut chosen turned chained by_pairs both_beside closed_by least_said unlike_table",
+    "Book": "Book with_table without_table put_together bare_book",
+    "Net": "Net net_sent with_wish without_wish with_place joined cut_to net_of",
 }
 
 

@@ -4,12 +4,15 @@ import random
 import time
 import unittest
 
+from pairtells.alike import bare_book, common_said, joined_said, say_the_same
+from pairtells.bare import barring_wishes, filling_of, net_of, sure_choice
 from pairtells.books import (
     Book, bar_of, common_majority, is_bar, is_majored, majority_of, many_keeping, splits_in, unmajored_least,
 )
 from pairtells.errors import InvalidMarks
-from pairtells.fillings import all_fillings, filled_by, first_filling, last_filling, many_fillings
-from pairtells.nets import Net
+from pairtells.fillings import all_fillings, filled_by, first_filling, goes_on, last_filling, many_fillings
+from pairtells.nets import Net, is_filling
+from pairtells.said import is_closed_list, is_said, least_said, made_by, said_pairs, sayings_for
 from pairtells.strikes import are_all_strikes, is_empty, left, left_with, rounds, strikes
 from pairtells.tables import Table, both_beside, by_pairs, chosen, cut, full, lies_in, more_by_pairs, pairs_of
 from pairtells.ways import closed_by, keeps, keeps_by_pairs, majority_at, many_majorities, why_broken
@@ -109,6 +112,37 @@ class LimitsTest(unittest.TestCase):
         wishes = [("t", list(two)) for two in zip(places, places[1:] + places[:1])]
         net = Net(Book(marks, {"t": Table(marks, 2, unlike.rows()[:12])}), places, wishes)
         self.assertEqual(many_fillings(net), len(all_fillings(net)))
+
+    def test_nets_of_books_of_six_rows_and_width_three(self):
+        drawn = random.Random(3)
+        rows = [drawn.sample(full(THREE, 3).rows(), 6) for _ in range(4)]
+        wild = Book(list(THREE), {name: Table(THREE, 3, some) for name, some in zip("abcd", rows)})
+        tame = Book(list(THREE), {name: Table(THREE, 3, full(THREE, 3).rows()[:6]) for name in "abcd"})
+        for book in (wild, tame):
+            net = net_of(book)
+            self.assertEqual((27, 864), (len(net.places()), len(net.wishes())))
+            self.assertIs(False, is_empty(net))
+            self.assertIs(True, are_all_strikes(net, strikes(net)))
+            if is_majored(book):
+                self.assertTrue(all(left_with(net, sure_choice(book)).values()))
+            self.assertIs(True, is_filling(net, filling_of(book, pick(THREE, 1))))
+        self.assertIs(True, goes_on(net_of(tame), sure_choice(tame)))
+        self.assertIs(True, is_filling(net_of(tame), first_filling(net_of(tame))))
+        self.assertTrue(barring_wishes(wild, bar_of(wild)))
+
+    def test_books_with_many_said_tables(self):
+        drawn, most = random.Random(4), 0
+        while most < 80:
+            book = drawn_majored_book(THREE, drawn, 3, (2, 2, 3), 5)
+            most = max(most, len(said_pairs(book)) if len(said_pairs(book)) <= 90 else 0)
+        tables = said_pairs(book)
+        self.assertIs(True, is_closed_list(book, tables))
+        self.assertEqual(len(tables), len([table for table in tables if is_said(book, table)]))
+        self.assertEqual(tables, [made_by(book, sayings_for(book, table))[-1] for table in tables])
+        self.assertEqual(tables, [least_said(book, table) for table in tables])
+        self.assertEqual(tables, common_said(book, bare_book(book)))
+        self.assertIs(False, joined_said(book, bare_book(book)))
+        self.assertIs(True, say_the_same(book, bare_book(book)))
 
 
 def has_split(bar, three):
