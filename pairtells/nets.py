@@ -149,8 +149,6 @@ def wishes_at(net, place):
 
 def neighbours(net, place):
     """Return the ascending list of the other places that stand in a wish with a place."""
-    check_net(net)
-    check_place(net, place)
     return sorted({other for _, held in wishes_at(net, place) for other in held if other != place})
 
 

@@ -109,6 +109,8 @@ class AlikeTest(unittest.TestCase):
             expected = expected and is_said(ladder_book(), value) != is_said(chain, value)
             self.assertIs(expected, is_unlike_table(ladder_book(), chain, value))
         self.assertIs(False, is_unlike_table(ladder_book(), ladder_book(), step()))
+        other = Table(["a", "b", "d"], 2, [("a", "a"), ("a", "b"), ("b", "b"), ("b", "d"), ("d", "d")])
+        self.assertIs(False, is_unlike_table(ladder_book(), chain, other))
 
 
 class NeedlessTest(unittest.TestCase):

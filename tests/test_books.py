@@ -8,7 +8,9 @@ from pairtells.books import (
     Book, bar_of, common_majority, deepest_in, is_bar, is_majored, keeps_book, majority_of, many_keeping, put_together,
     splits_in, unmajored_least, with_table, without_table,
 )
-from pairtells.errors import InvalidBook, InvalidMarks, InvalidName, InvalidSteps, InvalidTable, Refused, Unlike
+from pairtells.errors import (
+    InvalidBook, InvalidMarks, InvalidName, InvalidSteps, InvalidTable, InvalidWay, Refused, Unlike,
+)
 from pairtells.tables import Table, full
 from pairtells.ways import is_majority, middle_way
 from tests import judges
@@ -150,6 +152,12 @@ class MajoredTest(unittest.TestCase):
             for way in some_ways(book.marks(), random.Random(2), 5) + majorities(book.marks())[::100]:
                 kept = all(is_kept(table.rows(), way) for table in tables_of(book).values())
                 self.assertIs(kept, keeps_book(book, way))
+
+    def test_what_are_no_ways_over_the_marks_of_a_book(self):
+        for marks in (["a"], BITS, THREE, FIVE):
+            for book in (Book(marks, {}), Book(marks, {"t": full(marks, 1)})):
+                for way in (some_ways(["a", "d"], random.Random(1), 0)[0], {}, None, [], {("a", "a", "a"): "b"}, "way"):
+                    assert_raises_with(self, InvalidWay, way, keeps_book, book, way)
 
     def test_keeps_book_of_four_and_five_marks(self):
         for marks in (FIVE[:4], FIVE):

@@ -128,6 +128,10 @@ class GoesOnTest(unittest.TestCase):
         for value in any_objects():
             self.assertIs(value == ("nothing",), is_why_not_on(odd(), {}, value))
             right = value == ("x", "z", "b", "a")
+            near = (value, "z", "b", "a"), ("x", value, "b", "a"), ("x", "z", value, "a"), ("x", "z", "b", value)
+            for some in near:
+                expected = some == ("x", "z", "b", "a")
+                self.assertIs(expected, is_why_not_on(ladder(), {"x": "b", "z": "a"}, some))
             self.assertIs(right, is_why_not_on(ladder(), {"x": "b", "z": "a"}, value))
 
     def test_choices_that_are_none(self):

@@ -3,6 +3,7 @@
 import itertools
 import unittest
 
+from pairtells.bare import filling_of, way_of
 from pairtells.books import Book, bar_of, is_bar, is_majored, majority_of, splits_in
 from pairtells.errors import (
     InvalidChoice, InvalidFilling, InvalidMarks, InvalidOrder, InvalidPlaces, InvalidRows, InvalidSpots, InvalidSteps,
@@ -10,6 +11,7 @@ from pairtells.errors import (
 )
 from pairtells.fillings import all_fillings, filled_by, filling_behind, goes_on
 from pairtells.nets import Net, is_filling
+from pairtells.said import are_sayings, is_closed_list, made_by, net_saying, said_pairs
 from pairtells.strikes import are_strikes, left, may_strike
 from pairtells.tables import Table, chosen, full, pairs_of
 from pairtells.ways import gift_of, is_majority, is_way, keeps, middle_way, picker, why_broken
@@ -129,6 +131,35 @@ class KeptTest(unittest.TestCase):
 
 
 class LetThenWrongTest(unittest.TestCase):
+    def test_sayings_and_closed_lists(self):
+        book, some, closed = ladder_book(), [("pair", "step", 0, 1), ("chain", 0, 0)], said_pairs(ladder_book())
+        made, held = told(made_by(book, some)), told(net_saying(book, some))
+        for wrong in (("chain", 0, 3), ("turn", True), ["full"]):
+            some.append(wrong)
+            self.assertIs(False, are_sayings(book, some))
+            assert_raises_with(self, InvalidSteps, some, made_by, book, some)
+            assert_raises_with(self, InvalidSteps, some, net_saying, book, some)
+            some.pop()
+            self.assertIs(True, are_sayings(book, some))
+            self.assertEqual((made, held), (told(made_by(book, some)), told(net_saying(book, some))))
+            table = closed.pop()
+            self.assertIs(False, is_closed_list(book, closed))
+            closed.append(table)
+            self.assertIs(True, is_closed_list(book, closed))
+
+    def test_ways_and_fillings_of_the_net_of_a_book(self):
+        book, way = ladder_book(), middle(THREE, THREE)
+        filling = filling_of(book, way)
+        for wrong in ("d", None, ["a"]):
+            filling["pf"] = wrong
+            assert_raises_with(self, InvalidFilling, filling, way_of, book, filling)
+            filling["pf"] = "b"
+            self.assertEqual(way, way_of(book, filling))
+            way[("a", "b", "c")] = wrong
+            assert_raises_with(self, InvalidWay, way, filling_of, book, way)
+            way[("a", "b", "c")] = "b"
+            self.assertEqual(filling, filling_of(book, way))
+
     def test_tables_and_places_and_wishes(self):
         tables, places, held = {"step": step()}, ["x", "y"], ["x", "y"]
         wishes = [("step", held)]

@@ -226,6 +226,7 @@ class ChangedNetTest(unittest.TestCase):
                 more = with_wish(net, "step", held)
                 self.assertEqual(Net(net.book(), net.places(), net.wishes() + [("step", held)]), more)
                 self.assertEqual(there, more == net)
+                self.assertIs(there, more is net)
                 less = [some for some in net.wishes() if some != ("step", held)]
                 self.assertEqual(Net(net.book(), net.places(), less), without_wish(more, "step", held))
         self.assertIn(wish, ladder().wishes())

@@ -194,7 +194,7 @@ class SayingsTest(unittest.TestCase):
         bent = [
             ("full", 0), ("like", None), ("fuller",), (), ("pair", "step", 0), ("pair", "step", 0, 2), ("pair", "ring", 0, 1),
             ("pair", "step", True, 1), ("pair", "step", 0, True), ("pair", "step", False, 1), ("pair", "step", -1, 0),
-            ("pair", "step", 0, None), ("pair", ["step"], 0, 1), ("pair", None, 0, 1), ("cut", 0, 2), ("cut", 0, 3),
+            ("pair", "step", 2, 0), ("pair", "step", 10 ** 29, 0), ("pair", "step", 0, None), ("pair", ["step"], 0, 1), ("pair", None, 0, 1), ("cut", 0, 2), ("cut", 0, 3),
             ("cut", 2, 0), ("cut", -1, 0), ("cut", True, 0), ("cut", 0, False), ("cut", 0), ("cut", 0, 1, 1), ("cut", 0, None),
             ("chain", 0, 2), ("chain", 2, 0), ("chain", True, 1), ("chain", 1), ("turn", 2), ("turn", True), ("turn", -1),
             ("turn",), ("turn", 0, 0), ("turn", "0"), ("turn", (0,)), ["turn", 0], "full", None, {"full": 0}, ("turn", 10 ** 29),
@@ -327,6 +327,9 @@ class ClosedListTest(unittest.TestCase):
         for thing in (None, full(THREE, 1), full(BITS, 2), Table(THREE, 3, []), good, step().rows(), "full", ladder_book()):
             self.assertIs(False, is_closed_list(ladder_book(), good + [thing]))
             self.assertIs(False, is_closed_list(ladder_book(), [thing] + good[1:]))
+        for at, table in enumerate(good):
+            over_more = Table(FIVE[:4], 2, table.rows())
+            self.assertIs(False, is_closed_list(ladder_book(), good[:at] + [over_more] + good[at + 1:]))
         for value in any_objects():
             self.assertIs(False, is_closed_list(ladder_book(), value))
         self.assertIs(False, is_closed_list(ladder_book(), said_pairs(Book(THREE, {"ring": ring()}))))
