@@ -44,6 +44,31 @@ def filled_up(pairs, choice, order, wanted):
     return {place: filled[place] for place in sorted(filled)}
 
 
+def filling_with(net, pairs, choice):
+    """Return a filling that has a choice that is let by the pairs that are left of a net."""
+    marks = net.book().marks()
+    order = [place for place in net.places() if place not in choice]
+    return filled_up(pairs, choice, order, {place: marks for place in order})
+
+
+def has_filling(net):
+    """Return whether what surely is a net of a majored book has a filling."""
+    return not left_of(net).lack_some()
+
+
+def check_order(net, order):
+    """Raise InvalidPlaces unless any object is a list of all places of a net, each once."""
+    if not is_order_of(net.places(), order):
+        raise InvalidPlaces(order)
+
+
+def check_wanted(net, wanted):
+    """Raise InvalidOrder unless any object is a dictionary from just the places to lists of all marks, each once."""
+    marks = net.book().marks()
+    if not are_keys(net.places(), wanted) or not all([is_order_of(marks, some) for some in wanted.values()]):
+        raise InvalidOrder(wanted)
+
+
 def goes_on(net, choice):
     """Return whether some filling has all of a choice."""
     return why_not_on(net, choice) is None
@@ -202,11 +227,8 @@ def middle_of(net, way, fillings):
 def filled_by(net, order, wanted):
     """Return the filling that comes if places are filled in an order with the first wanted mark that goes on."""
     check_net_of_small_book(net)
-    places, marks = net.places(), net.book().marks()
-    if not is_order_of(places, order):
-        raise InvalidPlaces(order)
-    if not are_keys(places, wanted) or not all([is_order_of(marks, some) for some in wanted.values()]):
-        raise InvalidOrder(wanted)
+    check_order(net, order)
+    check_wanted(net, wanted)
     check_majored(net.book())
     pairs = left_of(net)
     if pairs.lack_some():

@@ -119,6 +119,25 @@ def left_of(net):
     return pairs
 
 
+def gone_from(some, others):
+    """Return the dictionary from the twos of others at which these lack some of the pairs, to the pairs that lack."""
+    gone = {}
+    for one, other in others.twos():
+        kept = others.pairs_at(one, other)
+        lacking = [pair for pair in some.pairs_at(one, other) if pair not in kept]
+        if lacking:
+            gone[one, other] = lacking
+    return gone
+
+
+def choice_of_first(gone):
+    """Return the choice of the first of the pairs at twos of a dictionary, None if there are none."""
+    for (one, other), pairs in gone.items():
+        mark, beside = pairs[0]
+        return {one: mark, other: beside}
+    return None
+
+
 def _pairs_behind(net, value):
     """Return the pairs behind what surely is a list of strikes, None if it is no such list."""
     if not isinstance(value, list):

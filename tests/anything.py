@@ -17,7 +17,24 @@ def deep(inner, depth):
 def any_objects():
     """Return a new list of objects of every kind, near misses of every argument among them."""
     plain = plain_objects() + lists() + tuples() + dictionaries()
-    return plain + net_lists() + net_dictionaries() + bars() + sayings() + own_objects()
+    return plain + net_lists() + net_dictionaries() + bars() + sayings() + tree_things() + own_objects()
+
+
+def tree_things():
+    """Return lots of wishes, reasons, line strikes, dues and floors, and near misses."""
+    wishes = [("ring", ["x", "y"]), ("ring", ["x", "z"]), ("ring", ["y", "z"])]
+    strikes = [("z", "b", "z"), ("z", "c", "z"), ("y", "c", "z"), ("y", "b", "z"), ("x", "a", "y")]
+    dues = {("y", "b"): 1, ("x", "a"): 3, ("x", "b"): 0, ("y", "a"): 2}
+    floor = {("x", "y", "a"): 3, ("x", "y", "b"): 3, ("y", "x", "a"): 1, ("y", "x", "b"): None}
+    lots = [wishes, wishes[:2], list(reversed(wishes)), wishes + wishes[:1], tuple(wishes), [list(wish) for wish in wishes]]
+    struck = [strikes, strikes[:1], strikes[1:], list(reversed(strikes)), tuple(strikes), [list(strike) for strike in strikes]]
+    near = [("y", "b"), ("z", "b", "z"), ("z", "a", "z"), [("z", "a", "z")], [("z", "b", "y")], [("z", "b")], [strikes[0]] * 2]
+    costs = [dues, {**dues, ("x", "b"): True}, {**dues, ("x", "b"): -1}, {**dues, ("x", "b"): None}, {**dues, ("x", "c"): 1}]
+    costs += [{**dues, ("x", "b"): 10 ** 30}, {("x", "a"): 1}, {"x": {"a": 1}}, list(dues.items()), {**dues, "x": 1}]
+    floors = [floor, {**floor, ("y", "x", "a"): True}, {**floor, ("x", "y", "b"): 2}, {**floor, ("y", "x", "b"): 0}]
+    floors += [{**floor, ("y", "x", "b"): False}, {**floor, ("y", "x", "c"): None}, list(floor.items()), dict(list(floor.items())[1:])]
+    bound = [("x", "z", "a", "a"), ("x", "z", "b", "a"), ("z", "x", "a", "b"), ["x", "z", "b", "a"], ("x", "z", "d", "a")]
+    return lots + struck + near + costs + floors + bound
 
 
 def sayings():

@@ -21,12 +21,21 @@ class Parameter:
 
 
 class Call:
-    """A function of the interface, its parameters, and a maker of arguments that fit."""
+    """A function of the interface, its parameters, a maker of arguments that fit, and in which order they are looked at."""
 
-    def __init__(self, function, parameters, make):
+    def __init__(self, function, parameters, make, order=None):
         self.function = function
         self.parameters = parameters
         self.make = make
+        self.order = list(range(len(parameters))) if order is None else order
+
+    def ahead(self, at):
+        """Return the positions of the parameters that are looked at ahead of one."""
+        return self.order[:self.order.index(at)]
+
+    def behind(self, at):
+        """Return the positions of the parameters that are looked at behind one."""
+        return self.order[self.order.index(at) + 1:]
 
     def named(self, values):
         return {parameter.name: value for parameter, value in zip(self.parameters, values)}

@@ -7,7 +7,7 @@ import random
 from pairtells.books import Book
 from pairtells.nets import Net
 from pairtells.tables import Table
-from tests.objects import THREE, closure, drawn_majority, drawn_table, is_word, middle, step, threes
+from tests.objects import BITS, THREE, closure, drawn_majority, drawn_table, is_word, middle, step, threes
 
 
 def ring():
@@ -331,3 +331,24 @@ def drawn_net(book, drawn, places=4, most=5):
         name = drawn.choice(book.names())
         wishes.append((name, [drawn.choice(words) for _ in range(book.table(name).width())]))
     return Net(book, words, wishes)
+
+
+def majored_nets(seed, many, places=4, most=6):
+    """Return nets of drawn majored books over one to three marks."""
+    drawn = random.Random(seed)
+    books = [drawn_majored_book(marks, drawn, drawn.randint(0, 3)) for _ in range(many) for marks in (["a"], BITS, THREE)]
+    return [drawn_net(book, drawn, drawn.randint(1, places), most) for book in books]
+
+
+def fixed_nets():
+    """Return nets with and without fillings."""
+    none = Book(list(THREE), {"none": Table(THREE, 1, []), "step": step()})
+    return [ladder(), odd(), Net(none, ["x", "y"], [("none", ["x"])]), Net(ladder_book(), ["x", "y"], [])]
+
+
+def unmajored_net():
+    return Net(both_book(), ["x", "y"], [("step", ["x", "y"])])
+
+
+def having(fillings, choice):
+    return [some for some in fillings if all(some[place] == mark for place, mark in choice.items())]

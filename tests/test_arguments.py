@@ -15,6 +15,8 @@ from tests.objects import BITS, assert_raises_with, middle, minority, pick, step
 JUDGES = [
     "is_way", "is_majority", "is_why_broken", "is_bar", "is_filling", "are_strikes", "are_all_strikes", "is_why_empty",
     "is_why_not_on", "are_sayings", "is_why_not_said", "is_closed_list", "is_why_beyond", "is_unlike_table",
+    "is_parting_filling", "is_why_needed", "is_barring_lot", "is_why_not", "is_why_bound", "are_line_strikes",
+    "is_cheapest", "is_floor",
 ]
 
 
@@ -26,7 +28,8 @@ class ArgumentsTest(unittest.TestCase):
                     self.judge(call, at, parameter)
 
     def judge(self, call, at, parameter):
-        ahead = call.make()[:at]
+        good = call.make()
+        ahead = [good[position] for position in call.ahead(at)]
         wrong = [value for value in any_objects() if not parameter.fits(value, *ahead)]
         self.assertGreater(len(wrong), 60)
         for value in wrong:
@@ -37,18 +40,24 @@ class ArgumentsTest(unittest.TestCase):
 
     def with_wrong(self, call, at, value):
         """Return lists of arguments with a wrong one, and what fits or does not fit behind it."""
-        good = call.make()
-        junk = [None, [None], InvalidMarks(), -1]
-        behind = [good[at + 1:]] + [[thing] * (len(good) - at - 1) for thing in junk]
-        return [good[:at] + [value] + rest for rest in behind[:1 if at + 1 == len(good) else None]]
+        lists = [call.make()]
+        lists[0][at] = value
+        for thing in [None, [None], InvalidMarks(), -1] if call.behind(at) else []:
+            values = list(lists[0])
+            for position in call.behind(at):
+                values[position] = thing
+            lists.append(values)
+        return lists
 
     def test_objects_that_fit_are_let(self):
         for call in all_calls():
-            *ahead, _ = call.make()
+            last = call.order[-1]
             for value in any_objects():
-                if call.parameters[-1].fits(value, *ahead):
+                values = call.make()
+                if call.parameters[last].fits(value, *[values[position] for position in call.ahead(last)]):
+                    values[last] = value
                     try:
-                        call.function(*ahead, value)
+                        call.function(*values)
                     except (Unlike, Unmajored, Refused):
                         # These are told of arguments that fit one by one.
                         pass

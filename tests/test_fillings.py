@@ -18,36 +18,16 @@ from pairtells.ways import majority_at
 from tests import judges
 from tests.anything import any_objects
 from tests.judges import (
-    all_markings, both_book, drawn_book, drawn_majored_book, drawn_net, fillings_of, keeping, ladder, ladder_book, odd, ring,
+    all_markings, both_book, drawn_book, drawn_net, fillings_of, fixed_nets, having, keeping, ladder,
+    majored_nets, odd, ring, unmajored_net,
 )
-from tests.objects import BITS, FIVE, THREE, assert_raises_with, middle, pick, step, told
-
-
-def majored_nets(seed, many, places=4, most=6):
-    """Return nets of drawn majored books over one to three marks."""
-    drawn = random.Random(seed)
-    books = [drawn_majored_book(marks, drawn, drawn.randint(0, 3)) for _ in range(many) for marks in (["a"], BITS, THREE)]
-    return [drawn_net(book, drawn, drawn.randint(1, places), most) for book in books]
-
-
-def fixed_nets():
-    """Return nets with and without fillings."""
-    none = Book(list(THREE), {"none": Table(THREE, 1, []), "step": step()})
-    return [ladder(), odd(), Net(none, ["x", "y"], [("none", ["x"])]), Net(ladder_book(), ["x", "y"], [])]
-
-
-def unmajored_net():
-    return Net(both_book(), ["x", "y"], [("step", ["x", "y"])])
+from tests.objects import BITS, FIVE, THREE, assert_raises_with, middle, pick, told
 
 
 def choices_of(net):
     """Return all choices at all lots of places."""
     lots = [lot for many in range(len(net.places()) + 1) for lot in itertools.combinations(net.places(), many)]
     return [dict(zip(lot, some)) for lot in lots for some in itertools.product(net.book().marks(), repeat=len(lot))]
-
-
-def having(fillings, choice):
-    return [some for some in fillings if all(some[place] == mark for place, mark in choice.items())]
 
 
 def some_calls():

@@ -41,6 +41,20 @@ pairtells.said: said_pairs(book), is_said(book, table), are_sayings(book, value)
 pairtells.alike: says_all(one, other), say_the_same(one, other), unlike_table(one, other),
     is_unlike_table(one, other, value), needless_names(one), bare_book(one), common_said(one, other),
     joined_said(one, other)
+pairtells.forgets: same_fillings(one, other), lies_within(one, other), parting_filling(one, other),
+    is_parting_filling(one, other, value), pair_net(net), forgotten(net, places), forgotten_in_turn(net, order),
+    filled_back(net, order, wanted), meet(one, other), meeting(one, other), heard(one, other)
+pairtells.needs: is_needless(net, wish), needless_wishes(net), why_needed(net, wish), is_why_needed(net, wish, value),
+    bare_net(net), is_bare(net), barring_lot(net), is_barring_lot(net, value), barring_lots(net), most_kept(net),
+    kept_lots(net), mending_wishes(net), takes_away(net, name, places)
+pairtells.must: must_be(net, places, table), why_not(net, places, table), is_why_not(net, places, table, value),
+    held_rows(net, places), forced(net), always_like(net), never_like(net), tells_of(net, one, other),
+    needs_of(net, place, mark), stand_free(net, places), why_bound(net, places), is_why_bound(net, places, value),
+    widest(net)
+pairtells.trees: is_tree_net(net), lines_of(net), line_strikes(net), are_line_strikes(net, value), marks_left(net),
+    many_fillings_of(net, choice), filling_at(net, number), number_of_filling(net, filling), least_due(net, dues),
+    cheapest(net, dues), is_cheapest(net, dues, value), floor_of(net, dues), is_floor(net, dues, value),
+    many_cheapest(net, dues), sum_of_dues(net, dues), many_by_marks(net, place, mark), dues_of(net, dues)
 """
 METHODS = {
     Table: ["marks()", "width()", "rows()"], Book: ["marks()", "names()", "table(name)"],
@@ -49,18 +63,24 @@ METHODS = {
 KINDS = {
     "bool": """lies_in told_by_pairs is_way is_majority is_why_broken keeps keeps_by_pairs keeps_book is_majored is_bar
         is_filling are_strikes are_all_strikes is_empty is_why_empty goes_on is_why_not_on is_said are_sayings
-        is_why_not_said is_closed_list is_why_beyond says_all say_the_same is_unlike_table joined_said""",
-    "int": "many_majorities many_keeping splits_in deepest_in many_fillings picker_for",
+        is_why_not_said is_closed_list is_why_beyond says_all say_the_same is_unlike_table joined_said same_fillings lies_within
+        is_parting_filling meet is_needless is_why_needed is_bare is_barring_lot must_be is_why_not tells_of stand_free
+        is_why_bound is_tree_net are_line_strikes is_cheapest is_floor""",
+    "int": """many_majorities many_keeping splits_in deepest_in many_fillings picker_for most_kept many_fillings_of
+        number_of_filling least_due many_cheapest sum_of_dues many_by_marks""",
     "str": "place_of",
     "dict": """pairs_of picker middle_way majority_at majority_of common_majority wish_counts left left_with first_filling
-        last_filling filling_behind middle_of filled_by filling_of way_of sure_choice""",
+        last_filling filling_behind middle_of filled_by filling_of way_of sure_choice parting_filling
+        forgotten_in_turn filled_back meeting heard why_needed takes_away why_not forced needs_of marks_left filling_at
+        cheapest floor_of""",
     "list": """more_by_pairs unmajored_least broken_wishes wishes_at neighbours pieces held_by first_pairs may_strike
         strikes left_pairs rounds why_empty left_marks next_marks all_fillings barring_wishes said_pairs made_by
-        sayings_for needless_names common_said""",
-    "tuple": "why_broken gift_of bar_of why_not_on three_of net_saying why_not_said why_beyond",
-    "Table": "Table full like cut chosen turned chained by_pairs both_beside closed_by least_said unlike_table",
+        sayings_for needless_names common_said needless_wishes barring_lot barring_lots kept_lots mending_wishes
+        always_like never_like widest lines_of line_strikes dues_of""",
+    "tuple": "why_broken gift_of bar_of why_not_on three_of net_saying why_not_said why_beyond why_bound",
+    "Table": "Table full like cut chosen turned chained by_pairs both_beside closed_by least_said unlike_table held_rows",
     "Book": "Book with_table without_table put_together bare_book",
-    "Net": "Net net_sent with_wish without_wish with_place joined cut_to net_of",
+    "Net": "Net net_sent with_wish without_wish with_place joined cut_to net_of pair_net forgotten bare_net",
 }
 
 
