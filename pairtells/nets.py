@@ -87,6 +87,11 @@ def check_wish(net, name, places):
         raise InvalidPlaces(places)
 
 
+def can_be_wish(net, name, places):
+    """Return whether there are the name of a table and as many places of the net as it is wide."""
+    return name in net.book().names() and _fit_wish(net.book(), net.places(), name, places)
+
+
 def check_unlike_places(net, places):
     """Raise InvalidPlaces unless any object is a list, not empty, of unlike places of the net."""
     if not are_some_of(net.places(), places) or not places or not are_unlike(places):

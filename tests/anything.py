@@ -1,6 +1,7 @@
 """Any objects (point 2), near misses of every argument of the interface among them."""
 
 from pairtells.books import Book, bar_of
+from pairtells.desk import Desk
 from pairtells.errors import InvalidMarks, NothingToUndo, PairError
 from pairtells.nets import Net
 from pairtells.tables import Table, full
@@ -17,7 +18,64 @@ def deep(inner, depth):
 def any_objects():
     """Return a new list of objects of every kind, near misses of every argument among them."""
     plain = plain_objects() + lists() + tuples() + dictionaries()
-    return plain + net_lists() + net_dictionaries() + bars() + sayings() + tree_things() + own_objects()
+    papers = tree_things() + change_things() + script_things() + texts()
+    return plain + net_lists() + net_dictionaries() + bars() + sayings() + papers + own_objects() + desks()
+
+
+def change_things():
+    """Return lists of changes and records, and near misses."""
+    changes = [
+        ("put", "step", ["z", "x"]), ("take", "step", ["x", "y"]), ("place", "u"), ("leave", "z"), ("one", "x", "y"),
+        ("put", "step", []), ("put", "step", ("z", "x")), ("put", "step"), ("put", "step", ["z", "x"], "x"), ("put", None, ["x"]),
+        ("put", "Step", ["x"]), ("put", "step", ["x", "X"]), ("put", "step", "zx"), ["put", "step", ["z", "x"]], ("place",),
+        ("place", "u", "v"), ("place", ""), ("place", 1), ("leave", None), ("leave", ["x"]), ("one", "x"), ("one", "x", 1),
+        ("one", ["x"], "y"), ("two", "x", "y"), ("place", "abcdefghi"), (None,), (True, "x"), (["place"], "x"), ((), "u"), "place",
+    ]
+    records = [
+        ("put", None), ("put",), ("put", None, None), ("take", "x"), ("wish", 0, "step", ["x", "y"]), ("drop", 0, 0, 0),
+        ("choose", 0, "x", "a"), ("choose", 0, "x"), ("leave", 0, "x"), ("meld", 0, 1), ("meld", 0), ("make_one", 0, "x", "y"),
+        ("undo",), ("marks_there", 0, "x"), ("make_one", 0, 0, 0, 0), ["take", 0], ("make", 0, 0, 0), (0, 1),
+    ]
+    return [[each] for each in changes + records] + [changes[:5], records[:1] + [("take", 0)], (changes[2],), changes[2], records[0]]
+
+
+def script_things():
+    """Return scripts, and near misses."""
+    commands = [
+        ("put", ["x", "y"], [("step", ["x", "y"])]), ("put", ["x", "x"], []), ("put", [], []), ("put", ["x"], [("step", [])]),
+        ("put", ["x"], (("step", ["x"]),)), ("put", ["x"], [["step", ["x"]]]), ("put", ("x",), []), ("put", ["x"], [("step", ["x"], 1)]),
+        ("put", ["x"], [("step", "x")]), ("put", ["x"]), ("put", ["X"], []), ("take", 0), ("take", True), ("take", -1), ("take", "0"),
+        ("take", 10 ** 29), ("wish", 0, "step", ["x", "y"]), ("wish", 0, "step", []), ("wish", 0, None, ["x"]), ("drop", 0, "s", ["x"]),
+        ("choose", 0, "x", "c"), ("choose", "0", "x", "c"), ("choose", 0, "x", ["c"]), ("leave", 0, "x"), ("meld", 0, 0),
+        ("meld", 0, False), ("make_one", 0, "x", "y"), ("make_one", 0, "x", 1), ("marks_there", 0, "x"), ("sure_there", 0),
+        ("sure_there",), ("choice_there", 0), ("alike_spots", 0), ("freest",), ("freest", 0), ("undo",), ("redo",), ("redo", None),
+        ("try", []), ("try", [("take", 0)]), ("try", [("try", [("undo",)])]), ("try", [("take", None)]), ("try", ()), ("try",),
+        ("try", [("try", [("nothing",)])]), ("spots",), ("record",), ["freest"],
+    ]
+    return [[command] for command in commands] + [[("freest",), ("undo",)], (("freest",),), ("freest",), [("freest",), None]]
+
+
+def texts():
+    """Return texts, and near misses."""
+    end = chr(10)
+    return [
+        "none", "x a", "x a" + end + "y b", "y b" + end + "x a", "x a" + end, "x  a", " x a", "x a" + end + "x b", "x y a b z", "x y a b",
+        "freest", "undo", "take 0", "take 00", "take", "take x", "take -1", "freest ", "freest 0", "try", "try" + end + "end",
+        "try" + end + "  take 0" + end + "end", "try" + end + " take 0" + end + "end", "try" + end + "  take 0", "put x", "put" + end + "end",
+        "put x" + end + "  wish" + end + "end", "put x" + end + "  step x" + end + "end", "put x" + end + "end" + end, "end", end,
+        "marks a", "marks a b" + end + "table t 1" + end + "a", "marks b a", "marks", "marks a" + end, "marks a" + end + "a",
+        "marks a b" + end + "table t 1" + end + "a b", "marks a b" + end + "table t 5", "marks a b" + end + "table t 01",
+        "marks a" + end + "table t 1" + end + "a" + end + "a", "marks a" + end + "places x", "places x", "marks a" + end + "places",
+        "marks a" + end + "places x" + end + "wish", "marks a" + end + "places x" + end + "wish t x", "marks a" + end + "places y x",
+    ]
+
+
+def desks():
+    """Return desks, empty and not."""
+    empty, some = Desk(ladder_book()), Desk(ladder_book())
+    some.put(ladder())
+    some.choose(0, "x", "b")
+    return [empty, some, [some], {"desk": some}]
 
 
 def tree_things():

@@ -6,7 +6,8 @@ import re
 
 from pairtells import errors
 from pairtells.books import Book
-from pairtells.errors import PairError
+from pairtells.desk import Desk
+from pairtells.errors import NothingToRedo, PairError
 from pairtells.nets import Net
 from pairtells.tables import Table
 
@@ -156,11 +157,33 @@ def told(value):
         return "Book", value.marks(), [(name, told(value.table(name))) for name in value.names()]
     if isinstance(value, Net):
         return "Net", told(value.book()), value.places(), told(value.wishes())
+    if isinstance(value, Desk):
+        return "Desk", told_desk(value)
     if isinstance(value, dict):
         return "dict", [(told(key), told(worth)) for key, worth in value.items()]
     if isinstance(value, (list, tuple)):
         return type(value).__name__, [told(item) for item in value]
     return type(value).__name__, value
+
+
+def told_desk(desk):
+    """Return all that a desk tells, also behind each command that can be taken back or made again."""
+    back, forth = desk.copy(), desk.copy()
+    lists = [[told_now(desk)], []]
+    while back.record():
+        back.undo()
+        lists[0].append(told_now(back))
+    try:
+        while True:
+            forth.redo()
+            lists[1].append(told_now(forth))
+    except NothingToRedo:
+        return lists
+
+
+def told_now(desk):
+    spots = [(spot, told(desk.net_there(spot)), told(desk.choice_there(spot))) for spot in desk.spots()]
+    return spots, told(desk.record()), desk.copy().put(Net(desk.book(), ["x"], []))
 
 
 def spoil(value):

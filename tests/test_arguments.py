@@ -2,13 +2,15 @@
 
 import unittest
 
+from pairtells.desk import replayed
 from pairtells.errors import (
-    InvalidMarks, InvalidNumber, InvalidTable, InvalidWay, InvalidWidth, Refused, Unlike, Unmajored,
+    InvalidMarks, InvalidNumber, InvalidTable, InvalidWay, InvalidWidth, PairError, Refused, Unlike, Unmajored,
 )
 from pairtells.tables import Table, chained, chosen, cut, full
 from pairtells.ways import gift_of, is_way, keeps, keeps_by_pairs, majority_at, picker
 from tests.anything import any_objects
 from tests.all_calls import all_calls
+from tests.desk_calls import method_calls
 from tests.objects import BITS, assert_raises_with, middle, minority, pick, step, told
 
 
@@ -16,13 +18,13 @@ JUDGES = [
     "is_way", "is_majority", "is_why_broken", "is_bar", "is_filling", "are_strikes", "are_all_strikes", "is_why_empty",
     "is_why_not_on", "are_sayings", "is_why_not_said", "is_closed_list", "is_why_beyond", "is_unlike_table",
     "is_parting_filling", "is_why_needed", "is_barring_lot", "is_why_not", "is_why_bound", "are_line_strikes",
-    "is_cheapest", "is_floor",
+    "is_cheapest", "is_floor", "is_lost_filling", "is_filling_there",
 ]
 
 
 class ArgumentsTest(unittest.TestCase):
     def test_the_first_argument_that_does_not_fit_is_told(self):
-        for call in all_calls():
+        for call in all_calls() + method_calls():
             for at, parameter in enumerate(call.parameters):
                 if parameter.error is not None:
                     self.judge(call, at, parameter)
@@ -50,7 +52,7 @@ class ArgumentsTest(unittest.TestCase):
         return lists
 
     def test_objects_that_fit_are_let(self):
-        for call in all_calls():
+        for call in all_calls() + method_calls():
             last = call.order[-1]
             for value in any_objects():
                 values = call.make()
@@ -61,16 +63,19 @@ class ArgumentsTest(unittest.TestCase):
                     except (Unlike, Unmajored, Refused):
                         # These are told of arguments that fit one by one.
                         pass
+                    except PairError:
+                        # A record fits whatever its commands are called with.
+                        self.assertIs(replayed, call.function)
 
     def test_positions_and_names_are_the_same(self):
-        for call in all_calls():
+        for call in all_calls() + method_calls():
             by_position, by_name = call.function(*call.make()), call.function(**call.named(call.make()))
             self.assertEqual(told(by_position), told(by_name))
             backwards = dict(reversed(list(call.named(call.make()).items())))
             self.assertEqual(told(by_position), told(call.function(**backwards)))
 
     def test_a_last_value_is_judged_whatever_it_is(self):
-        judges = [call for call in all_calls() if call.parameters[-1].name == "value"]
+        judges = [call for call in all_calls() + method_calls() if call.parameters[-1].name == "value"]
         self.assertEqual(JUDGES, [call.function.__name__ for call in judges])
         for call in judges:
             self.assertIs(True, call.function(*call.make()))

@@ -7,9 +7,11 @@ import unittest
 
 from pairtells import errors
 from pairtells.books import Book
+from pairtells.desk import Desk
 from pairtells.nets import Net
 from pairtells.tables import Table
 from tests.all_calls import all_calls
+from tests.desk_calls import method_calls
 from tests.objects import FIELD_CLASSES, PLAIN_CLASSES
 
 LISTED = """
@@ -55,32 +57,51 @@ pairtells.trees: is_tree_net(net), lines_of(net), line_strikes(net), are_line_st
     many_fillings_of(net, choice), filling_at(net, number), number_of_filling(net, filling), least_due(net, dues),
     cheapest(net, dues), is_cheapest(net, dues, value), floor_of(net, dues), is_floor(net, dues, value),
     many_cheapest(net, dues), sum_of_dues(net, dues), many_by_marks(net, place, mark), dues_of(net, dues)
+pairtells.changes: changed(net, changes), kept_fillings(net, changes), lost_filling(net, changes),
+    is_lost_filling(net, changes, value), fits(net, name, places), fitting(net), moments(net, changes),
+    first_end(net, changes), spared(net, changes)
+pairtells.desk: Desk(book), replayed(desk, record)
+pairtells.scripts: play(desk, script), script_text(script), read_script(text), end_of(book, script),
+    shortened(book, script)
+pairtells.papers: book_text(book), read_book(text), net_text(net), read_net(text), choice_text(choice),
+    read_choice(text), strikes_text(strikes), read_strikes(text)
 """
 METHODS = {
     Table: ["marks()", "width()", "rows()"], Book: ["marks()", "names()", "table(name)"],
     Net: ["book()", "places()", "wishes()"],
+    Desk: [
+        "put(net)", "take(spot)", "spots()", "net_there(spot)", "choice_there(spot)", "wish(spot, name, places)",
+        "drop(spot, name, places)", "choose(spot, place, mark)", "leave(spot, place)", "marks_there(spot, place)",
+        "sure_there(spot)", "filling_there(spot)", "is_filling_there(spot, value)", "meld(one, other)",
+        "make_one(spot, place, other)", "alike_spots(spot)", "freest()", "trial()", "attempt(action)", "copy()", "undo()",
+        "redo()", "record()",
+    ],
 }
 KINDS = {
     "bool": """lies_in told_by_pairs is_way is_majority is_why_broken keeps keeps_by_pairs keeps_book is_majored is_bar
         is_filling are_strikes are_all_strikes is_empty is_why_empty goes_on is_why_not_on is_said are_sayings
         is_why_not_said is_closed_list is_why_beyond says_all say_the_same is_unlike_table joined_said same_fillings lies_within
         is_parting_filling meet is_needless is_why_needed is_bare is_barring_lot must_be is_why_not tells_of stand_free
-        is_why_bound is_tree_net are_line_strikes is_cheapest is_floor""",
+        is_why_bound is_tree_net are_line_strikes is_cheapest is_floor kept_fillings is_lost_filling fits
+        is_filling_there""",
     "int": """many_majorities many_keeping splits_in deepest_in many_fillings picker_for most_kept many_fillings_of
-        number_of_filling least_due many_cheapest sum_of_dues many_by_marks""",
-    "str": "place_of",
+        number_of_filling least_due many_cheapest sum_of_dues many_by_marks first_end put""",
+    "str": "place_of script_text book_text net_text choice_text strikes_text",
     "dict": """pairs_of picker middle_way majority_at majority_of common_majority wish_counts left left_with first_filling
         last_filling filling_behind middle_of filled_by filling_of way_of sure_choice parting_filling
         forgotten_in_turn filled_back meeting heard why_needed takes_away why_not forced needs_of marks_left filling_at
-        cheapest floor_of""",
+        cheapest floor_of lost_filling end_of read_choice choice_there sure_there filling_there""",
     "list": """more_by_pairs unmajored_least broken_wishes wishes_at neighbours pieces held_by first_pairs may_strike
         strikes left_pairs rounds why_empty left_marks next_marks all_fillings barring_wishes said_pairs made_by
         sayings_for needless_names common_said needless_wishes barring_lot barring_lots kept_lots mending_wishes
-        always_like never_like widest lines_of line_strikes dues_of""",
+        always_like never_like widest lines_of line_strikes dues_of fitting moments spared play read_script shortened
+        read_strikes spots marks_there alike_spots freest record""",
     "tuple": "why_broken gift_of bar_of why_not_on three_of net_saying why_not_said why_beyond why_bound",
     "Table": "Table full like cut chosen turned chained by_pairs both_beside closed_by least_said unlike_table held_rows",
-    "Book": "Book with_table without_table put_together bare_book",
-    "Net": "Net net_sent with_wish without_wish with_place joined cut_to net_of pair_net forgotten bare_net",
+    "Book": "Book with_table without_table put_together bare_book read_book",
+    "Net": "Net net_sent with_wish without_wish with_place joined cut_to net_of pair_net forgotten bare_net changed read_net net_there",
+    "Desk": "Desk replayed copy",
+    "NoneType": "take wish drop choose leave meld make_one undo redo",
 }
 
 
@@ -108,12 +129,13 @@ class InterfaceTest(unittest.TestCase):
 
     def test_methods_stand_in_their_classes(self):
         for each, methods in METHODS.items():
-            for name in ("__init__", "__eq__"):
+            for name in ("__init__", "__eq__") if each is not Desk else ("__init__",):
                 self.assertTrue(inspect.isfunction(vars(each)[name]))
             for method in methods:
                 name, parameters = method[:-1].split("(")
                 self.assertTrue(inspect.isfunction(vars(each)[name]))
-                self.assertEqual(["self"] + parameters.split(), parameters_of(vars(each)[name]))
+                expected = ["self"] + [word for word in parameters.split(", ") if word]
+                self.assertEqual(expected, parameters_of(vars(each)[name]))
 
     def test_errors_stand_in_their_file(self):
         for each in [errors.PairError] + FIELD_CLASSES + PLAIN_CLASSES:
@@ -128,7 +150,7 @@ class InterfaceTest(unittest.TestCase):
             self.assertEqual([parameter.name for parameter in call.parameters], parameters_of(call.function))
 
     def test_kinds_of_values(self):
-        for call in all_calls():
+        for call in all_calls() + method_calls():
             name = type(call.function(*call.make())).__name__
             self.assertIn(call.function.__name__, KINDS[name].split(), call.function)
 
@@ -143,7 +165,7 @@ class InterfaceTest(unittest.TestCase):
         self.assertEqual([(str, list)], [(type(name), type(held)) for name, held in net.wishes()])
 
     def test_dictionaries_have_ascending_keys(self):
-        for call in all_calls():
+        for call in all_calls() + method_calls():
             self.judge_keys(call.function(*call.make()), call)
 
     def judge_keys(self, result, call):
