@@ -153,7 +153,13 @@ def are_words_of_strikes(value):
 
 
 def is_choice_text(value):
-    return type(value) is str and value in ("none", "x a", "x a" + chr(10) + "y b")
+    if type(value) is not str or value == "none":
+        return value == "none"
+    lines = [line.split(" ") for line in value.split(chr(10))]
+    if not all(len(line) == 2 and is_word(line[0]) and is_word(line[1]) for line in lines):
+        return False
+    places = [line[0] for line in lines]
+    return places == sorted(set(places))
 
 
 def is_strikes_text(value):
