@@ -6,7 +6,7 @@ from pairtells.fillings import check_net_of_small_book, check_order, check_wante
 from pairtells.kinds import LETTERS
 from pairtells.nets import Net, are_some_of, are_unlike, cut_to, is_filling
 from pairtells.strikes import choice_of_first, first_let, gone_from, left_of, strike_out
-from pairtells.tables import Table, check_same_marks
+from pairtells.tables import Table
 
 
 def _check_two_nets(one, other):
