@@ -1,5 +1,6 @@
 """Point 3: within its limits every call comes to an end in a short time."""
 
+import itertools
 import random
 import time
 import unittest
@@ -9,8 +10,14 @@ from pairtells.bare import barring_wishes, filling_of, net_of, sure_choice
 from pairtells.books import (
     Book, bar_of, common_majority, is_bar, is_majored, majority_of, many_keeping, splits_in, unmajored_least,
 )
+from pairtells.changes import fitting, moments, spared
 from pairtells.errors import InvalidMarks
 from pairtells.fillings import all_fillings, filled_by, first_filling, goes_on, last_filling, many_fillings
+from pairtells.forgets import filled_back, forgotten, lies_within, pair_net, same_fillings
+from pairtells.must import held_rows
+from pairtells.needs import (
+    bare_net, barring_lot, barring_lots, is_bare, is_barring_lot, kept_lots, mending_wishes, most_kept,
+)
 from pairtells.nets import Net, is_filling
 from pairtells.said import is_closed_list, is_said, least_said, made_by, said_pairs, sayings_for
 from pairtells.strikes import are_all_strikes, is_empty, left, left_with, rounds, strikes
@@ -97,6 +104,38 @@ class LimitsTest(unittest.TestCase):
             order = drawn.sample(net.places(), 7)
             filling = filled_by(net, order, {place: drawn.sample(THREE, 3) for place in order})
             self.assertEqual(filling is None, last_filling(net) is None)
+
+    def test_needs_of_seven_places_and_ten_wishes(self):
+        drawn, barred = random.Random(5), 0
+        while barred < 3:
+            net = drawn_net(drawn_majored_book(THREE, drawn, 4, (2, 3, 4), 6), drawn, 7, 10)
+            self.assertIs(True, same_fillings(net, pair_net(net)))
+            self.assertIs(True, same_fillings(net, bare_net(net)))
+            self.assertIs(True, is_bare(bare_net(net)))
+            order = drawn.sample(net.places(), 7)
+            wanted = {place: drawn.sample(THREE, 3) for place in order}
+            self.assertEqual(filled_by(net, order[::-1], wanted), filled_back(net, order, wanted))
+            self.assertEqual(held_rows(net, order[:4]), held_rows(forgotten(net, order[4:]), order[:4]))
+            self.assertIs(True, lies_within(net, net))
+            fitting(net)
+            if is_empty(net):
+                self.assertIs(True, is_barring_lot(net, barring_lot(net)))
+                mending_wishes(net)
+                barred += 1
+        changes = [("put", name, places) for name, places in net.wishes()] + [("leave", net.places()[0])]
+        free = Net(net.book(), net.places(), [])
+        self.assertEqual(len(changes) + 1, len(moments(free, changes)))
+        self.assertLessEqual(len(spared(free, changes)), len(changes))
+
+    def test_lots_of_six_wishes(self):
+        places = ["p", "q", "r", "s", "t", "u", "v"]
+        circle = Book(list(THREE), {"ring": Table(THREE, 2, [("a", "b"), ("b", "c"), ("c", "a")])})
+        for shift in (1, 2):
+            net = Net(circle, places, [("ring", [place, places[(at + shift) % 7]]) for at, place in enumerate(places)][:6])
+            self.assertEqual([], barring_lots(net))
+        net = Net(circle, places, [("ring", list(two)) for two in itertools.combinations(places[:4], 2)])
+        self.assertTrue(all(is_barring_lot(net, lot) for lot in barring_lots(net)))
+        self.assertEqual(most_kept(net), max(len(lot) for lot in kept_lots(net)))
 
     def test_two_hundred_fillings(self):
         marks, places = FIVE, ["p", "q", "r", "s", "t", "u", "v"]
