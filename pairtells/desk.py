@@ -117,8 +117,8 @@ class Desk:
     def drop(self, spot, name, places):
         """Take a wish out of a net."""
         net, choice = self._there(spot)
-        check_wish(net, name, places)
-        self._set(("drop", spot, name, list(places)), spot, without_wish(net, name, places), choice)
+        dropped = without_wish(net, name, places)
+        self._set(("drop", spot, name, list(places)), spot, dropped, choice)
 
     def choose(self, spot, place, mark):
         """Give a place a mark in the choice."""
@@ -181,7 +181,6 @@ class Desk:
         """Make two places of a net one, the first word staying."""
         net, choice = self._there(spot)
         check_place(net, place)
-        check_place(net, other)
         made = behind_made_one(net, place, other)
         if made is None:
             raise InvalidPlace(other)

@@ -194,11 +194,8 @@ def floor_of(net, dues):
 def is_floor(net, dues, value):
     """Return whether any object is the floor of a net with dues."""
     _check_net_and_dues(net, dues)
-    floor = _floor(net, dues)
-    if not are_keys(list(floor), value):
-        return False
-    # A count may be equal to what is none: True is 1.
-    return value == floor and all([worth is None or is_count(worth) for worth in value.values()])
+    # What is equal to a count may be none: True is 1.
+    return value == _floor(net, dues) and all([worth is None or is_count(worth) for worth in value.values()])
 
 
 def many_cheapest(net, dues):

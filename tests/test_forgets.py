@@ -312,6 +312,13 @@ class MeetTest(unittest.TestCase):
         self.assertIs(False, meet(one, other))
         self.assertIsNone(meeting(one, other))
 
+    def test_a_mark_that_both_let_and_that_leads_nowhere(self):
+        one = Net(Book(BITS, {"t": Table(BITS, 2, [("a", "a"), ("b", "b")])}), ["x", "y"], [("t", ["x", "y"])])
+        other = Net(Book(BITS, {"t": Table(BITS, 2, [("a", "b"), ("b", "b")])}), ["x", "y", "z"], [("t", ["x", "y"])])
+        for first, second in ((one, other), (other, one)):
+            self.assertIs(True, meet(first, second))
+            self.assertEqual({"x": "b", "y": "b"}, {place: meeting(first, second)[place] for place in "xy"})
+
     def test_marks_that_are_unlike(self):
         other = Net(Book(BITS, {}), ["x"], [])
         for call in (meet, meeting, heard):

@@ -90,6 +90,7 @@ class TreeNetTest(unittest.TestCase):
             ([("s", ["x", "y"]), ("s", ["y", "z"]), ("s", ["z", "x"])], False),
             ([("s", ["x", "y"]), ("s", ["y", "z"]), ("s", ["z", "u"])], True),
             ([("s", ["x", "y"]), ("s", ["y", "z"]), ("s", ["z", "u"]), ("t", ["u", "x", "u"])], False),
+            ([("t", ["x", "y", "z"]), ("s", ["x", "y"]), ("s", ["y", "z"])], False),
             ([("s", ["x", "u"]), ("s", ["y", "u"]), ("s", ["z", "u"])], True), ([("s", ["x", "x"])], True),
         ):
             net = Net(wide, places, wishes)
