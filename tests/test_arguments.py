@@ -36,15 +36,16 @@ class ArgumentsTest(unittest.TestCase):
         self.assertGreater(len(wrong), 60)
         for value in wrong:
             field = parameter.field(value, *ahead)
-            for values in self.with_wrong(call, at, value):
+            good, *others = self.with_wrong(call, at, value)
+            assert_raises_with(self, parameter.error, field, call.function, **call.named(good))
+            for values in [good] + others:
                 assert_raises_with(self, parameter.error, field, call.function, *values)
-                assert_raises_with(self, parameter.error, field, call.function, **call.named(values))
 
     def with_wrong(self, call, at, value):
         """Return lists of arguments with a wrong one, and what fits or does not fit behind it."""
         lists = [call.make()]
         lists[0][at] = value
-        for thing in [None, [None], InvalidMarks(), -1] if call.behind(at) else []:
+        for thing in [None, [InvalidMarks(), -1]] if call.behind(at) else []:
             values = list(lists[0])
             for position in call.behind(at):
                 values[position] = thing
@@ -53,10 +54,10 @@ class ArgumentsTest(unittest.TestCase):
 
     def test_objects_that_fit_are_let(self):
         for call in all_calls() + method_calls():
-            last = call.order[-1]
+            last, good = call.order[-1], call.make()
             for value in any_objects():
-                values = call.make()
-                if call.parameters[last].fits(value, *[values[position] for position in call.ahead(last)]):
+                if call.parameters[last].fits(value, *[good[position] for position in call.ahead(last)]):
+                    values = call.make()
                     values[last] = value
                     try:
                         call.function(*values)
