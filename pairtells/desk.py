@@ -281,7 +281,7 @@ def called(desk, word, things):
             return desk.freest()
         case "undo":
             return desk.undo()
-        case _:
+        case "redo":
             return desk.redo()
 
 
